@@ -1,0 +1,1 @@
+"""Setitback: two forms that must fit, and what it costs to take a setting back."""

@@ -1,0 +1,32 @@
+"""Weights of bonds that were looked at already, as flows from side 0 through the pairs to side 1."""
+
+from setitback.net import least_flow
+
+
+def least_weight(bond, lows, low_shares, high_shares):
+    """The least weight with each number from its low on; None if there is none.
+
+    The shares of a side lie from its low to its high one, (of side 0, of side 1).
+    """
+    m, n, pairs = bond
+    hub = m + n
+    arcs = [(s, m + t, low, max(low, high_shares[0])) for (s, t), low in zip(pairs, lows)]
+    arcs = arcs + [(hub, s, low_shares[0], high_shares[0]) for s in range(m)]
+    arcs = arcs + [(m + t, hub, low_shares[1], high_shares[1]) for t in range(n)]
+    # The pairs come first, so that the least tuple has the least weight.
+    values = least_flow(hub + 1, arcs)
+    return None if values is None else values[:len(pairs)]
+
+
+def shares_of(bond, weight):
+    """(The shares of side 0, those of side 1)."""
+    shares = [[0] * bond[0], [0] * bond[1]]
+    for (s, t), number in zip(bond[2], weight):
+        shares[0][s] = shares[0][s] + number
+        shares[1][t] = shares[1][t] + number
+    return tuple(shares[0]), tuple(shares[1])
+
+
+def are_alike_shares(shares):
+    """Whether all shares of a side are alike and above 0."""
+    return shares[0] > 0 and all([share == shares[0] for share in shares])

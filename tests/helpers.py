@@ -1,0 +1,153 @@
+"""What several tests use: strict comparison, any values, small bonds, lots and fractions by their definitions."""
+
+from fractions import Fraction
+from itertools import combinations, product
+from random import Random
+
+from setitback.errors import Broken, NoFilling, OwnError, Refused
+
+
+def same(one, other):
+    """Whether two values are equal, of the same kinds throughout: no list is a tuple, no bool an integer."""
+    if type(one) is not type(other):
+        return False
+    if isinstance(one, (list, tuple)):
+        return len(one) == len(other) and all(same(x, y) for x, y in zip(one, other))
+    return one is other if isinstance(one, Exception) else one == other
+
+
+def listed(value):
+    """The same value with lists in place of tuples, throughout."""
+    return [listed(part) for part in value] if isinstance(value, (list, tuple)) else value
+
+
+def deep(many):
+    value = 0
+    for _ in range(many):
+        value = (value,)
+    return value
+
+
+def any_values():
+    """Values of every kind that can be passed."""
+    return [
+        None, True, False, "", "0", "01", "flow", "quotient", -1, 6, 7, 400, 10 ** 30, -(10 ** 30), (), [], (None,), [True],
+        ((),), [[], []], (-1,), [-1], (0, -1), (True, 0), (0, True), (False, 0), (0, False), (1, 6), (2, 0), (0, 0, 0),
+        "ab", ("0", 1), (0, "1"), (None, None), (0, None), [[0, 0], 1], ((0, 0), (0,)), ((0, 0), (0, True)), (7, 7), (9, 9),
+        Refused(0), Broken(None), NoFilling(()), (OwnError("x"), 0), [0, [1, [2, [3]]]], deep(50), listed(deep(49)), ("flow",),
+        ("flow", "cut"), ("cut", ()), ("carried", None), ("crossed", 0), ("barred", 0), ("anywhere", 0, (), 1), (None, 0, ()),
+        (1, 1, ((0, True),)), (1, 1, ((False, 0),)), (True, 1, ((0, 0),)), (0, ((0, 0),)), (0, ((0, 0),), (((0,), (False,)),)),
+    ]
+
+
+class Checks:
+    """Assertions beside those of a test case."""
+
+    def told(self, expected, found):
+        self.assertTrue(same(expected, found), f"expected {expected!r}, found {found!r}")
+
+    def raised(self, kind, attribute, kept, call, *args, **named):
+        """Assert that a call raises just this error, with this value in the attribute."""
+        try:
+            found = call(*args, **named)
+        except Exception as error:
+            if type(error) is not kind:
+                raise AssertionError(f"{type(error)} instead of {kind}: {call.__name__}{args}") from error
+            self.assertTrue(same(kept, getattr(error, attribute)), (call.__name__, args, getattr(error, attribute)))
+            if not isinstance(kept, int) or isinstance(kept, bool):
+                self.assertIs(getattr(error, attribute), kept)
+            return error
+        raise AssertionError(f"no {kind} from {call.__name__}{args}, but {found!r}")
+
+    def takes_lists(self, call, *args):
+        """Assert that lists are as tuples, that they stay unchanged, and that equal calls tell equal results."""
+        expected = call(*args)
+        passed = [listed(arg) for arg in args]
+        self.told(expected, call(*passed))
+        self.told([listed(arg) for arg in args], passed)
+        self.told(expected, call(*args))
+
+
+def refuses(case, kind, attribute, call, before, right, behind=()):
+    """Assert that a call raises for any value at one place, unless `right` tells that it is a right one there."""
+    many = 0
+    for value in any_values():
+        if not right(value):
+            case.raised(kind, attribute, value, call, *before, value, *behind)
+            many += 1
+    case.assertGreater(many, 10)
+
+
+def never(value):
+    return False
+
+
+def bonds_of(m, n):
+    """All bonds of these sizes."""
+    every = list(product(range(m), range(n)))
+    for which in range(1 << len(every)):
+        pairs = tuple(pair for at, pair in enumerate(every) if which >> at & 1)
+        if len({s for s, _ in pairs}) == m and len({t for _, t in pairs}) == n:
+            yield m, n, pairs
+
+
+def small_bonds(most=3):
+    for m in range(1, most + 1):
+        for n in range(1, most + 1):
+            yield from bonds_of(m, n)
+
+
+def some_bonds(seed, many, most=6):
+    """Bonds of sizes up to the most, always the same for one seed."""
+    random = Random(seed)
+    found = []
+    while len(found) < many:
+        m, n, part = random.randint(1, most), random.randint(1, most), random.randint(2, 9)
+        pairs = tuple(pair for pair in product(range(m), range(n)) if random.randrange(10) < part)
+        if len({s for s, _ in pairs}) == m and len({t for _, t in pairs}) == n:
+            found.append((m, n, pairs))
+    return found
+
+
+def full(m, n):
+    return m, n, tuple(product(range(m), range(n)))
+
+
+def lots(many):
+    """All lots of so many fillings: of fewer first, then ascending."""
+    return [lot for size in range(1, many + 1) for lot in combinations(range(many), size)]
+
+
+def fitting(bond, side, lot):
+    """What fits something of the lot, by its definition."""
+    return tuple(sorted({pair[1 - side] for pair in bond[2] if pair[side] in lot}))
+
+
+def worth(bond, side, lot):
+    return Fraction(len(lot), len(fitting(bond, side, lot)))
+
+
+def best(bond, side):
+    """The greatest quotient of a side."""
+    return max(worth(bond, side, lot) for lot in lots(bond[side]))
+
+
+def is_even(bond):
+    return best(bond, 0) * best(bond, 1) == 1
+
+
+def parts(fraction):
+    return fraction.numerator, fraction.denominator
+
+
+def is_tuples(value):
+    """Whether there is no list in a value."""
+    if isinstance(value, list):
+        return False
+    return not isinstance(value, tuple) or all(is_tuples(part) for part in value)
+
+
+# The smallest wrong and right arguments that many tests pass.
+VIEW = (2, 3, ((0, 0), (0, 1), (1, 1), (1, 2)))
+EVEN = (2, 2, ((0, 0), (1, 0), (1, 1)))
+DESK = (3, 2, ((0, 0), (1, 0), (2, 0), (2, 1)))

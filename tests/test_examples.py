@@ -1,0 +1,113 @@
+"""The document's own examples of chapters 3 to 8, as they stand there."""
+
+import doctest
+import unittest
+
+FORMS = """
+>>> from setitback.forms import check_run, filling_count, filling_of, read_run, setting_at, values_of, with_value, write_run
+>>> filling_count((2, 3)), filling_of((2, 3), (1, 2)), values_of((2, 3), 4), with_value((2, 3), 4, 0, 0)
+(6, 5, (1, 1), 1)
+>>> write_run([(0, 5), [1, 2]]), setting_at((7, 1, 3, 0), 1), read_run((0, 5, 1)), check_run([])
+((0, 5, 1, 2), ((1, 3), 3), (((0, 5),), 2), ())
+"""
+
+BONDS = """
+>>> from setitback.bonds import beside, bond_octets, degrees, only, partners, pieces, put_together, quotient, ruled, turned
+>>> view = (2, 3, ((0, 0), (0, 1), (1, 1), (1, 2)))
+>>> partners(view, 0, (0,)), only(view, 0, (0,)), degrees(view, 1), quotient(view, 1, (0, 1, 2)), turned(view)
+((0, 1), (0,), (1, 2, 1), (3, 2), (3, 2, ((0, 0), (1, 0), (1, 1), (2, 1))))
+>>> pieces((3, 3, ((0, 0), (1, 1), (1, 2), (2, 1)))), put_together(view, turned(view)), bond_octets(view)
+((((0,), (0,)), ((1, 2), (1, 2))), (2, 2, ((0, 0), (0, 1), (1, 0), (1, 1))), (2, 3, 3, 6))
+>>> ruled((2,), (2, 2), [(0, 1, [(0, 0), (1, 1), (1, 0)])])
+(2, 4, ((0, 0), (0, 2), (1, 0), (1, 1), (1, 2), (1, 3)))
+"""
+
+FLOWS = """
+>>> from setitback.flows import circulation, flow_holds, least
+>>> from setitback.shares import climb, greatest, lot_at, product, quotient_holds, quotient_paper, share_sums
+>>> circulation(2, [(0, 1, 2, 3), (1, 0, 0, 1)]), circulation(3, [(0, 1, 1, 1), (1, 2, 0, 4), (2, 0, 0, 4)])
+(('cut', (1,)), ('flow', (1, 1, 1)))
+>>> least(2, [(0, 1, 0, 5), (0, 1, 0, 5), (1, 0, 3, 5)]), flow_holds(2, [(0, 1, 2, 3), (1, 0, 0, 1)], ["cut", [1]])
+((0, 3, 3), True)
+>>> desk = (3, 2, ((0, 0), (1, 0), (2, 0), (2, 1)))
+>>> greatest(desk, 0), greatest(desk, 1), product(desk), climb(desk, 0)
+(((2, 1), (0, 1)), ((1, 1), (1,)), (2, 1), (((3, 2), (0, 1, 2)), ((2, 1), (0, 1))))
+>>> lot_at(desk, 0, (5, 2)), lot_at(desk, 0, (0, 1)), quotient_paper(desk, 0), share_sums(desk, [1, 1, 0, 1])
+((), (0, 1, 2), ('quotient', (0, 1), (1, 1, 0, 1)), ((1, 1, 1), (2, 1)))
+>>> quotient_holds(desk, 0, ["quotient", [0, 1], [2, 2, 0, 2]])
+True
+"""
+
+TIGHT = """
+>>> from setitback.tight import blocks, carried, crossing, is_tight, least_tight, tight_lots
+>>> even = (2, 2, ((0, 0), (1, 0), (1, 1)))
+>>> tight_lots(even, 0), tight_lots(even, 1), least_tight(even, 0, 1), is_tight(even, 0, (1,))
+(((0,), (0, 1)), ((1,), (0, 1)), (0, 1), False)
+>>> carried(even), blocks(even), crossing(even, (1, 0)), crossing(even, (1, 1))
+(((0, 0), (1, 1)), (((0,), (0,)), ((1,), (1,))), (0,), None)
+>>> carried((3, 2, ((0, 0), (1, 0), (2, 0), (2, 1))))
+((0, 0), (1, 0), (2, 1))
+"""
+
+WEIGHTS = """
+>>> from setitback.weights import anywhere, anywhere_holds, anywhere_paper, asked, balanced, is_balanced, start_holds, start_paper
+>>> even, full = (2, 2, ((0, 0), (1, 0), (1, 1))), (2, 2, ((0, 0), (0, 1), (1, 0), (1, 1)))
+>>> balanced(even, None), balanced(even, (1, 0)), is_balanced(even, [3, 0, 3]), balanced(full, (0, 0))
+((1, 0, 1), None, True, (1, 0, 0, 1))
+>>> start_paper(even, (1, 0)), start_paper(even, (1, 1)), start_holds(full, (0, 1), ["carried", [1, 2, 2, 1]])
+(('crossed', (0,)), ('carried', (1, 0, 1)), True)
+>>> asked(full, 0, (0,)), asked(even, 0, (0,)), anywhere(full), anywhere_paper(full), anywhere_paper(even)
+(2, None, 2, ('anywhere', 0, (0,), (1, 1, 1, 1)), ('barred', 0, (0,)))
+>>> anywhere_holds(full, ("anywhere", 1, (1,), (1, 1, 1, 1)))
+True
+"""
+
+MACHINES = """
+>>> from setitback.alike import apart, are_alike, class_of, classes, made_least, parting
+>>> from setitback.machines import bond_of, come, come_by, led, seen, shown, trimmed
+>>> desk = (0, ((0, 0), (0, 1), (1, 1)), (((0, 2), (0, 1)), ((0, 2), (0, 2)), ((1, 2), (0, 2))))
+>>> bond_of(desk), shown(desk, 2), led(desk, 0, ((0, 1), (1, 0))), seen(desk, ((0, 1), (0, 0)))
+((2, 2, ((0, 0), (0, 1), (1, 1))), (1, 1), 0, ((0, 0), (1, 1), (0, 1)))
+>>> come(desk), come_by(desk, 1), trimmed(desk)[1]
+((0, 1, 2), ((1, 1),), ((0, 0), (1, 1), (0, 1)))
+>>> twins = (1, ((0, 0), (0, 0), (1, 0)), (((1, 2), (1,)), ((0, 2), (0,)), ((0, 2), (2,))))
+>>> classes(twins), class_of(twins, 1), are_alike(twins, 0, 1), parting(twins, 0, 2), made_least(twins)
+(((0, 1), (2,)), 0, True, (), (0, ((0, 0), (1, 0)), (((0, 1), (0,)), ((0, 1), (1,)))))
+>>> other = (0, ((0, 0), (1, 0), (0, 0)), (((0, 1), (2,)), ((0, 1), (1,)), ((0, 1), (0,))))
+>>> apart(twins, other) is None
+True
+"""
+
+
+def run_examples(case, text):
+    """Run the examples of a chapter; a test that fails shows what they printed."""
+    test = doctest.DocTestParser().get_doctest(text, {}, case.id(), None, 0)
+    said = []
+    runner = doctest.DocTestRunner(verbose=False)
+    runner.run(test, out=said.append)
+    case.assertGreater(runner.tries, 1)
+    case.assertEqual(runner.failures, 0, "".join(said))
+
+
+class Examples(unittest.TestCase):
+    def test_chapter_3(self):
+        run_examples(self, FORMS)
+
+    def test_chapter_4(self):
+        run_examples(self, BONDS)
+
+    def test_chapter_5(self):
+        run_examples(self, FLOWS)
+
+    def test_chapter_6(self):
+        run_examples(self, TIGHT)
+
+    def test_chapter_7(self):
+        run_examples(self, WEIGHTS)
+
+    def test_chapter_8(self):
+        run_examples(self, MACHINES)
+
+
+if __name__ == "__main__":
+    unittest.main()
