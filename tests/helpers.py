@@ -1,6 +1,7 @@
 """What several tests use: strict comparison, any values, small bonds, lots and fractions by their definitions."""
 
 from fractions import Fraction
+from functools import lru_cache
 from itertools import combinations, product
 from random import Random
 
@@ -113,20 +114,24 @@ def full(m, n):
     return m, n, tuple(product(range(m), range(n)))
 
 
+@lru_cache(None)
 def lots(many):
     """All lots of so many fillings: of fewer first, then ascending."""
     return [lot for size in range(1, many + 1) for lot in combinations(range(many), size)]
 
 
+@lru_cache(None)
 def fitting(bond, side, lot):
     """What fits something of the lot, by its definition."""
     return tuple(sorted({pair[1 - side] for pair in bond[2] if pair[side] in lot}))
 
 
+@lru_cache(None)
 def worth(bond, side, lot):
     return Fraction(len(lot), len(fitting(bond, side, lot)))
 
 
+@lru_cache(None)
 def best(bond, side):
     """The greatest quotient of a side."""
     return max(worth(bond, side, lot) for lot in lots(bond[side]))
