@@ -48,6 +48,21 @@ def common_of(lots):
     return tuple([filling for filling in lots[0] if all([filling in lot for lot in lots])])
 
 
+def greatest_of(bond, side):
+    """(The greatest quotient of a lot of this side, the lot that has it and holds all others that have it)."""
+    quotients = [(quotient_of(bond, side, lot), lot) for lot in lots_of(bond[side])]
+    best = quotients[0][0]
+    for found, _ in quotients:
+        best = found if is_above(found, best) else best
+    return best, either_of([lot for found, lot in quotients if found == best])
+
+
+def product_of_greatest(bond):
+    """The product of both greatest quotients, a fraction."""
+    p, q = greatest_of(bond, 0)[0], greatest_of(bond, 1)[0]
+    return lowest_terms(p[0] * q[0], p[1] * q[1])
+
+
 def component(bond, filling):
     """The piece with this filling of side 0: (a lot of side 0, a lot of side 1)."""
     lot = (filling,)

@@ -4,7 +4,7 @@ from setitback.anyvalue import is_lot, is_number, is_row, is_word
 from setitback.bonds import check_bond, check_side
 from setitback.carrying import are_alike_shares, least_weight, shares_of
 from setitback.errors import BadWeight, Refused
-from setitback.lots import either_of, is_above, lots_of, lowest_terms, partners_of, quotient_of
+from setitback.lots import either_of, greatest_of, lots_of, partners_of, product_of_greatest, quotient_of
 
 
 def check_price(price):
@@ -49,17 +49,12 @@ def climb(bond, side):
 def greatest(bond, side):
     """(The greatest quotient of a lot of this side, the lot that has it and holds all others that have it)."""
     bond = check_bond(bond)
-    quotients = [(quotient_of(bond, side, lot), lot) for lot in lots_of(bond[check_side(side)])]
-    best = quotients[0][0]
-    for found, _ in quotients:
-        best = found if is_above(found, best) else best
-    return best, either_of([lot for found, lot in quotients if found == best])
+    return greatest_of(bond, check_side(side))
 
 
 def product(bond):
     """The product of both greatest quotients, a fraction."""
-    p, q = greatest(bond, 0)[0], greatest(bond, 1)[0]
-    return lowest_terms(p[0] * q[0], p[1] * q[1])
+    return product_of_greatest(check_bond(bond))
 
 
 def check_weight(bond, value):
@@ -85,8 +80,8 @@ def sided(side, one, other):
 
 def quotient_paper(bond, side):
     """("quotient", lot, weight): the lot of `greatest`, and the least weight that shows it."""
-    (top, bottom), lot = greatest(bond, side)
     bond = check_bond(bond)
+    (top, bottom), lot = greatest_of(bond, check_side(side))
     weight = least_weight(bond, [0] * len(bond[2]), sided(side, bottom, 0), sided(side, bottom, top))
     return "quotient", lot, weight
 

@@ -3,8 +3,7 @@
 from setitback.anyvalue import is_below
 from setitback.bonds import check_bond, check_lot, check_side
 from setitback.errors import NoFilling, Refused
-from setitback.lots import common_of, is_pair_of, lots_of, partners_of, pieces_of
-from setitback.shares import greatest, product
+from setitback.lots import common_of, greatest_of, is_pair_of, lots_of, partners_of, pieces_of, product_of_greatest
 
 
 def is_tight_of(bond, side, lot):
@@ -21,7 +20,7 @@ def is_tight(bond, side, lot):
 def check_even(value):
     """Any value as an even bond, of tuples; BadBond if it is no bond, Refused if it is not even."""
     bond = check_bond(value)
-    if product(bond) != (1, 1):
+    if product_of_greatest(bond) != (1, 1):
         raise Refused(value)
     return bond
 
@@ -60,7 +59,7 @@ def bars(bond, side, lot, pair):
 
 def greatest_lots(bond, side):
     """All lots of this side that have its greatest quotient."""
-    top, bottom = greatest(bond, side)[0]
+    top, bottom = greatest_of(bond, side)[0]
     return [lot for lot in lots_of(bond[side]) if len(lot) * bottom == len(partners_of(bond, side, lot)) * top]
 
 
