@@ -156,3 +156,79 @@ def is_tuples(value):
 VIEW = (2, 3, ((0, 0), (0, 1), (1, 1), (1, 2)))
 EVEN = (2, 2, ((0, 0), (1, 0), (1, 1)))
 DESK = (3, 2, ((0, 0), (1, 0), (2, 0), (2, 1)))
+
+
+def settings(bond):
+    return [(side, filling) for side in (0, 1) for filling in range(bond[side])]
+
+
+def all_machines(bond, many):
+    """All machines of a bond with so many situations."""
+    for kinds in product(bond[2], repeat=many):
+        choices = [[x for x in range(many) if kinds[x][side] == filling] for side, filling in settings(bond)]
+        if all(choices):
+            for flat in product(*choices * many):
+                wide = sum(bond[:2])
+                rows = [flat[at * wide:(at + 1) * wide] for at in range(many)]
+                for start in range(many):
+                    yield start, kinds, tuple((row[:bond[0]], row[bond[0]:]) for row in rows)
+
+
+def some_machine(random, bond, many):
+    """A machine of a bond with so many situations, at least as many as the bond has pairs."""
+    kinds = list(bond[2]) + [random.choice(bond[2]) for _ in range(many - len(bond[2]))]
+    random.shuffle(kinds)
+    having = {(side, filling): [x for x in range(many) if kinds[x][side] == filling] for side, filling in settings(bond)}
+    moves = tuple(tuple(tuple(random.choice(having[side, filling]) for filling in range(bond[side])) for side in (0, 1))
+                  for _ in range(many))
+    return random.randrange(many), tuple(kinds), moves
+
+
+def some_machines(seed, many, most=7):
+    """Machines of small bonds with up to so many situations, with their bonds, always the same for one seed."""
+    random = Random(seed)
+    bonds = [bond for bond in small_bonds(3) if len(bond[2]) <= most]
+    found = []
+    while len(found) < many:
+        bond = random.choice(bonds)
+        found.append((bond, some_machine(random, bond, random.randint(len(bond[2]), most))))
+    return found
+
+
+def step(machine, situation, setting):
+    return machine[2][situation][setting[0]][setting[1]]
+
+
+def walk(machine, situation, run):
+    for setting in run:
+        situation = step(machine, situation, setting)
+    return situation
+
+
+def runs(bond, most):
+    """All runs of up to so many settings: shorter ones first, then ascending."""
+    for many in range(most + 1):
+        yield from product(settings(bond), repeat=many)
+
+
+# Of (0, kinds, moves) on the bond EVEN below, what is wrong, and where BadMachine finds it.
+RIGHT = (0, ((0, 0), (1, 1), (1, 0)), (((0, 2), (0, 1)), ((0, 1), (2, 1)), ((0, 2), (2, 1))))
+KINDS, MOVES = RIGHT[1:]
+NO_MACHINES = [
+    (None, -1), (True, -1), (0, -1), ("012", -1), ((), -1), ((0, KINDS), -1), ((0, KINDS, MOVES, 0), -1), (Refused(0), -1),
+    ((0, None, MOVES), 1), ((0, (), MOVES), 1), ((0, "00", MOVES), 1), ((0, 3, MOVES), 1), ((None, (), None), 1),
+    ((0, ((0, 0), (1, 1), (0, 6)), MOVES), 1), ((0, ((0, 0), (1, 1), (1, False)), MOVES), 1), ((0, ((0, 0), (1, 1), (1,)), MOVES), 1),
+    ((0, ((0, 0), (1, 1), (1, 0, 0)), MOVES), 1), ((0, ((0, 0), (1, 1), (-1, 0)), MOVES), 1), ((0, ((0, 0), (1, 1), None), MOVES), 1),
+    ((0, ((0, 0), (1, 1), "10"), MOVES), 1), ((9, ((0, 0), (True, 1), (1, 0)), None), 1), ((0, ((0, 0),) * 401, MOVES), 1),
+    ((3, KINDS, None), 0), ((-1, KINDS, MOVES), 0), ((None, KINDS, MOVES), 0), ((True, KINDS, MOVES), 0), ((False, KINDS, MOVES), 0),
+    (("0", KINDS, MOVES), 0), (((0,), KINDS, MOVES), 0), ((10 ** 30, KINDS, ()), 0),
+    ((0, KINDS, None), 2), ((0, KINDS, ()), 2), ((0, KINDS, "012"), 2), ((0, KINDS, MOVES[:2]), 2), ((0, KINDS, MOVES + MOVES[:1]), 2),
+    ((0, KINDS, (*MOVES[:2], None)), 2), ((0, KINDS, (*MOVES[:2], ((0, 2),))), 2), ((0, KINDS, (*MOVES[:2], ((0, 2), (2, 1), ()))), 2),
+    ((0, KINDS, (*MOVES[:2], ((0,), (2, 1)))), 2), ((0, KINDS, (*MOVES[:2], ((0, 2), (2, 1, 1)))), 2),
+    ((0, KINDS, (*MOVES[:2], ((0, 2), None))), 2), ((0, KINDS, (*MOVES[:2], ((0, 2), "21"))), 2),
+    ((0, KINDS, (*MOVES[:2], ((0, 3), (2, 1)))), 2), ((0, KINDS, (*MOVES[:2], ((0, -1), (2, 1)))), 2),
+    ((0, KINDS, (*MOVES[:2], ((0, 2), (2, True)))), 2), ((0, KINDS, (*MOVES[:2], ((False, 2), (2, 1)))), 2),
+    ((0, KINDS, (*MOVES[:2], ((None, 2), (2, 1)))), 2), ((0, KINDS, (*MOVES[:2], ((1, 2), (2, 1)))), 2),
+    ((0, KINDS, (*MOVES[:2], ((0, 0), (2, 1)))), 2), ((0, KINDS, (*MOVES[:2], ((0, 2), (1, 1)))), 2),
+    ((0, KINDS, (((0, 2), (0, 0)), *MOVES[1:])), 2),
+]
