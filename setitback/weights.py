@@ -97,7 +97,7 @@ def anywhere_paper(bond):
     """("anywhere", side, lot, weight), or ("barred", side, lot), with the first lot that asks for most."""
     bond = check_bond(bond)
     many = anywhere(bond)
-    side, lot = [(side, lot) for ask, side, lot in all_asked(bond) if ask == many][0]
+    side, lot = [told[1:] for told in all_asked(bond) if told[0] == many][0]
     if many is None:
         return "barred", side, lot
     return "anywhere", side, lot, anywhere_weight(bond)
