@@ -14,6 +14,12 @@ def classes_of(machine):
     return tuple([tuple(lot) for lot in members.values()])
 
 
+def placed(machine):
+    """(The least situation of each class that can come, by situation that can come the place of its class)."""
+    found = classes_of(machine)
+    return [lot[0] for lot in found], {situation: at for at, lot in enumerate(found) for situation in lot}
+
+
 def classes(machine):
     """The classes of alike situations among those that can come, ordered by their least."""
     return classes_of(bonded(machine)[1])

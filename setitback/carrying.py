@@ -3,19 +3,26 @@
 from setitback.net import least_flow
 
 
-def least_weight(bond, lows, low_shares, high_shares):
+def least_between(bond, lows, low_shares, high_shares):
     """The least weight with each number from its low on; None if there is none.
 
-    The shares of a side lie from its low to its high one, (of side 0, of side 1).
+    The share of each filling lies from its low to its high one, (by filling of side 0, by filling of side 1), no low
+    one being above the high one.
     """
     m, n, pairs = bond
     hub = m + n
-    arcs = [(s, m + t, low, max(low, high_shares[0])) for (s, t), low in zip(pairs, lows)]
-    arcs = arcs + [(hub, s, low_shares[0], high_shares[0]) for s in range(m)]
-    arcs = arcs + [(m + t, hub, low_shares[1], high_shares[1]) for t in range(n)]
+    arcs = [(s, m + t, low, max(low, high_shares[0][s])) for (s, t), low in zip(pairs, lows)]
+    arcs = arcs + [(hub, s, low_shares[0][s], high_shares[0][s]) for s in range(m)]
+    arcs = arcs + [(m + t, hub, low_shares[1][t], high_shares[1][t]) for t in range(n)]
     # The pairs come first, so that the least tuple has the least weight.
     values = least_flow(hub + 1, arcs)
     return None if values is None else values[:len(pairs)]
+
+
+def least_weight(bond, lows, low_shares, high_shares):
+    """The least weight, likewise, where all shares of a side lie from its low to its high one."""
+    low_rows = [[low_shares[side]] * bond[side] for side in (0, 1)]
+    return least_between(bond, lows, low_rows, [[high_shares[side]] * bond[side] for side in (0, 1)])
 
 
 def shares_of(bond, weight):

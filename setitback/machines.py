@@ -5,7 +5,7 @@ from setitback.bonds import bond_with, check_bond
 from setitback.errors import BadBond, BadMachine, NoSituation, Refused
 from setitback.forms import MOST_FILLINGS
 from setitback.lots import is_pair_of
-from setitback.situations import behind, first_runs, renumbered, settings_in
+from setitback.situations import behind, behind_all, first_runs, renumbered, settings_in
 
 MOST_SITUATIONS = 400
 
@@ -137,9 +137,7 @@ def led(machine, situation, run):
     """The situation behind a run."""
     bond, machine = bonded(machine)
     situation = check_situation(machine, situation)
-    for setting in run_of(bond, run):
-        situation = behind(machine, situation, setting)
-    return situation
+    return behind_all(machine, situation, run_of(bond, run))
 
 
 def seen(machine, run):

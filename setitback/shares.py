@@ -57,9 +57,8 @@ def product(bond):
     return product_of_greatest(check_bond(bond))
 
 
-def check_weight(bond, value):
-    """Any value as a weight, a tuple; BadWeight if it is none."""
-    bond = check_bond(bond)
+def weight_with(bond, value):
+    """Any value as a weight of a bond that was looked at, a tuple; BadWeight if it is none."""
     if not is_row(value, len(bond[2])):
         raise BadWeight(-1)
     for at, number in enumerate(value):
@@ -68,9 +67,15 @@ def check_weight(bond, value):
     return tuple(value)
 
 
+def check_weight(bond, value):
+    """Any value as a weight, a tuple; BadWeight if it is none."""
+    return weight_with(check_bond(bond), value)
+
+
 def share_sums(bond, weight):
     """(The shares of side 0, those of side 1)."""
-    return shares_of(check_bond(bond), check_weight(bond, weight))
+    bond = check_bond(bond)
+    return shares_of(bond, weight_with(bond, weight))
 
 
 def sided(side, one, other):

@@ -17,6 +17,21 @@ def behind(machine, situation, setting):
     return machine[2][situation][side][filling]
 
 
+def behind_all(machine, situation, run):
+    """The situation behind the settings of a run, one after another."""
+    for setting in run:
+        situation = behind(machine, situation, setting)
+    return situation
+
+
+def back_again(machine, situation, setting):
+    """The situation behind a setting and, if it set its form to another filling, the setting back of what stood."""
+    side, filling = setting
+    stood = machine[1][situation][side]
+    found = machine[2][situation][side][filling]
+    return found if filling == stood else machine[2][found][side][stood]
+
+
 def first_runs(machine):
     """By situation that can come its first run, in the order of these runs."""
     settings = settings_on(machine)

@@ -63,11 +63,15 @@ def greatest_lots(bond, side):
     return [lot for lot in lots_of(bond[side]) if len(lot) * bottom == len(partners_of(bond, side, lot)) * top]
 
 
-def carried(bond):
-    """Ascending all pairs that no lot of a greatest quotient bars."""
-    bond = check_bond(bond)
+def carried_of(bond):
+    """The carried pairs of a bond that was looked at."""
     lots = [(side, lot) for side in (0, 1) for lot in greatest_lots(bond, side)]
     return tuple([pair for pair in bond[2] if not any([bars(bond, side, lot, pair) for side, lot in lots])])
+
+
+def carried(bond):
+    """Ascending all pairs that no lot of a greatest quotient bars."""
+    return carried_of(check_bond(bond))
 
 
 def stands_next(bond, block, told):
@@ -79,7 +83,7 @@ def stands_next(bond, block, told):
 def blocks(bond):
     """The blocks, each behind those in which its partners lie: (a lot of side 0, a lot of side 1)."""
     bond = check_even(bond)
-    left = list(pieces_of((bond[0], bond[1], carried(bond))))
+    left = list(pieces_of((bond[0], bond[1], carried_of(bond))))
     told = []
     while left:
         # Pieces are ascending, so the first that can stand next has the least filling.
@@ -89,9 +93,23 @@ def blocks(bond):
     return tuple(told)
 
 
+def crossed_by(bond, pair):
+    """Of the tight lots that a start crosses the one that lies in all others, or None; bond and start looked at."""
+    crossed = [lot for lot in tight_of(bond, 0) if bars(bond, 0, lot, pair)]
+    return common_of(crossed) if crossed else None
+
+
+def is_bounded(bond, pair):
+    """Whether a bond is even and a start of it crosses no tight lot, both looked at."""
+    return product_of_greatest(bond) == (1, 1) and crossed_by(bond, pair) is None
+
+
+def is_crossing(bond, pair):
+    """Whether a bond is even and a start of it crosses a tight lot, both looked at."""
+    return product_of_greatest(bond) == (1, 1) and crossed_by(bond, pair) is not None
+
+
 def crossing(bond, start):
     """Of the tight lots of side 0 that a start crosses the one that lies in all others; None if it crosses none."""
     bond = check_even(bond)
-    pair = check_start(bond, start)
-    crossed = [lot for lot in tight_of(bond, 0) if bars(bond, 0, lot, pair)]
-    return common_of(crossed) if crossed else None
+    return crossed_by(bond, check_start(bond, start))

@@ -6,8 +6,8 @@ from setitback.anyvalue import is_lot, is_row, is_side, is_word
 from setitback.bonds import check_bond, check_lot
 from setitback.carrying import are_alike_shares, least_weight, shares_of
 from setitback.lots import lots_of, partners_of
-from setitback.shares import check_weight, is_weight
-from setitback.tight import bars, check_even, check_start, crossing, is_tight_of
+from setitback.shares import is_weight, weight_with
+from setitback.tight import bars, check_even, check_start, crossed_by, is_tight_of
 
 
 def is_balanced_of(bond, weight):
@@ -18,7 +18,7 @@ def is_balanced_of(bond, weight):
 def is_balanced(bond, weight):
     """Whether all shares of side 0 are alike, and all of side 1, and above 0."""
     bond = check_bond(bond)
-    return is_balanced_of(bond, check_weight(bond, weight))
+    return is_balanced_of(bond, weight_with(bond, weight))
 
 
 def least_balanced(bond, many, lows):
@@ -28,19 +28,24 @@ def least_balanced(bond, many, lows):
     return least_weight(bond, lows, shares, shares)
 
 
+def least_balanced_with(bond, pair):
+    """The least balanced weight of the least size, in which a pair (or None) has 1 at least; None if there is none."""
+    return least_balanced(bond, 1, [1 if other == pair else 0 for other in bond[2]])
+
+
 def balanced(bond, start):
     """The least balanced weight of the least size, in which a start (or None) has 1 at least; None if there is none."""
     bond = check_bond(bond)
-    pair = None if start is None else check_start(bond, start)
-    return least_balanced(bond, 1, [1 if other == pair else 0 for other in bond[2]])
+    return least_balanced_with(bond, None if start is None else check_start(bond, start))
 
 
 def start_paper(bond, start):
     """("carried", weight) of a start, or ("crossed", lot)."""
-    check_start(check_even(bond), start)
-    weight = balanced(bond, start)
+    bond = check_even(bond)
+    pair = check_start(bond, start)
+    weight = least_balanced_with(bond, pair)
     if weight is None:
-        return "crossed", crossing(bond, start)
+        return "crossed", crossed_by(bond, pair)
     return "carried", weight
 
 

@@ -232,3 +232,17 @@ NO_MACHINES = [
     ((0, KINDS, (*MOVES[:2], ((0, 0), (2, 1)))), 2), ((0, KINDS, (*MOVES[:2], ((0, 2), (1, 1)))), 2),
     ((0, KINDS, (((0, 2), (0, 0)), *MOVES[1:])), 2),
 ]
+
+
+def uneven_bonds(seed, many, most=6):
+    """Bonds whose greatest quotients come to more than 1, always the same for one seed."""
+    random = Random(seed)
+    found = {}
+    while len(found) < many:
+        m, n = random.randint(2, most), random.randint(1, most)
+        pairs = {(s, random.randrange(n)) for s in range(m)} | {(random.randrange(m), t) for t in range(n)}
+        pairs |= {(random.randrange(m), random.randrange(n)) for _ in range(random.randrange(6))}
+        bond = (m, n, tuple(sorted(pairs)))
+        if not is_even(bond):
+            found[bond] = True
+    return list(found)

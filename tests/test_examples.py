@@ -1,4 +1,4 @@
-"""The document's own examples of chapters 3 to 8, as they stand there."""
+"""The document's own examples of chapters 3 to 12, as they stand there."""
 
 import doctest
 import unittest
@@ -78,6 +78,48 @@ MACHINES = """
 True
 """
 
+LOSSLESS = """
+>>> from setitback.lossless import is_forgetful, is_lossless, kept, loss, lost_at, onto, walk_back
+>>> desk = (0, ((0, 0), (0, 1), (1, 1)), (((0, 2), (0, 1)), ((0, 2), (0, 2)), ((1, 2), (0, 2))))
+>>> loss(desk), lost_at(desk, ((0, 1),)), lost_at(desk, ((1, 1),)), kept(desk), walk_back(desk, 0, ((0, 1), (1, 0)))
+(((), (0, 1), ()), ((1, 0), ()), ((0, 0), ()), ((), (0, 1), (0, 0), ()), ((1, 1), (0, 0)))
+>>> twins = (1, ((0, 0), (0, 0), (1, 0)), (((1, 2), (1,)), ((0, 2), (0,)), ((0, 2), (2,))))
+>>> is_lossless(twins), is_forgetful(twins), onto(twins, 0, 0, 1), onto(twins, 1, 0, 0)
+(True, True, (1,), (0, 1))
+"""
+
+FINITE = """
+>>> from setitback.finite import is_least, least_machine, machine_of, orbits, weight_of, woven
+>>> view = (2, 3, ((0, 0), (0, 1), (1, 1), (1, 2)))
+>>> least = least_machine(view, (0, 1))
+>>> least[0], least[1], least[2][2], is_least(least), weight_of(view, least)
+(2, ((0, 0), (0, 0), (0, 1), (1, 1), (1, 2), (1, 2)), ((2, 5), (0, 2, 4)), True, (2, 1, 1, 2))
+>>> orbits(least, 0), orbits(least, 1), least_machine((2, 2, ((0, 0), (0, 1), (1, 1))), (0, 1))
+(((0, 3), (1, 4), (2, 5)), ((0, 2, 4), (1, 3, 5)), None)
+>>> machine_of((2, 2, ((0, 0), (0, 1), (1, 1))), (1, 0, 1), (1, 1))
+(1, ((0, 0), (1, 1)), (((0, 1), (0, 1)), ((0, 1), (0, 1))))
+>>> woven((2, 1, ((0, 0), (1, 0))), ((0, 0), (1, 0)), 0, ((0, 1),), ((0,), (1,)))
+(0, ((0, 0), (1, 0)), (((0, 1), (0,)), ((0, 1), (1,))))
+"""
+
+HOTEL = """
+>>> from setitback.hotel import Hotel
+>>> hotel = Hotel((2, 2, ((0, 0), (0, 1), (1, 1))), (0, 1))
+>>> hotel.kinds, [hotel.shown(situation) for situation in range(5)]
+(((0, 0), (1, 1)), [(0, 1), (0, 0), (1, 1), (0, 0), (1, 1)])
+>>> hotel.put(0, (0, 1)), hotel.put(2, (1, 0)), hotel.put(3, (1, 1)), hotel.put(2, (0, 0))
+(2, 3, 2, 0)
+>>> hotel.rank(10 ** 30, 1) == 5 * 10 ** 29, hotel.led(10 ** 30, ((1, 0), (0, 0), (1, 1))) == 10 ** 30, hotel.within(7)
+(True, True, (8, 15))
+"""
+
+LADDER = """
+>>> from setitback.ladder import enough, layers, steps
+>>> view = (3, 2, ((0, 0), (1, 0), (2, 1)))
+>>> steps(view, 2, 3), layers(view, (0, 0), 2, 2), enough(view)
+(((2, 4, 6, 10), (3, 5, 9, 13)), ((1, 2, 3), (2, 2, 2)), 1024)
+"""
+
 
 def run_examples(case, text):
     """Run the examples of a chapter; a test that fails shows what they printed."""
@@ -107,6 +149,18 @@ class Examples(unittest.TestCase):
 
     def test_chapter_8(self):
         run_examples(self, MACHINES)
+
+    def test_chapter_9(self):
+        run_examples(self, LOSSLESS)
+
+    def test_chapter_10(self):
+        run_examples(self, FINITE)
+
+    def test_chapter_11(self):
+        run_examples(self, HOTEL)
+
+    def test_chapter_12(self):
+        run_examples(self, LADDER)
 
 
 if __name__ == "__main__":

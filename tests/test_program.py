@@ -32,6 +32,16 @@ INTERFACE = {
                 " come(machine) come_by(machine,situation) trimmed(machine)",
     "alike": "classes(machine) class_of(machine,situation) parting(machine,x,y) are_alike(machine,x,y)"
              " made_least(machine) apart(machine,other)",
+    "lossless": "lost_at(machine,run) loss(machine) is_lossless(machine) walk_back(machine,situation,run) kept(machine)"
+                " is_forgetful(machine) onto(machine,side,one,other)",
+    "finite": "machine_of(bond,weight,start) weight_of(bond,machine) least_machine(bond,start) is_least(machine)"
+              " orbits(machine,side) woven(bond,kinds,start,rows,columns)",
+    "hotel": "Hotel(bond,start)",
+    "ladder": "steps(bond,great,many) enough(bond) layers(bond,start,great,many)",
+}
+CLASSES = {
+    "hotel.Hotel": "shown(situation) layer(situation) rank(situation,side) nth(side,filling,rank) put(situation,setting)"
+                   " led(situation,run) within(many)",
 }
 
 
@@ -78,7 +88,7 @@ class Rules(unittest.TestCase):
             for alias in node.names:
                 self.assertIsNone(alias.asname)
                 if node.module == "math":
-                    self.assertIn(alias.name, ("gcd", "lcm"))
+                    self.assertIn(alias.name, ("gcd", "lcm", "isqrt"))
                     continue
                 self.assertTrue(node.module.startswith("setitback."), f"{path}: {node.module}")
                 value = getattr(importlib.import_module(node.module), alias.name)
@@ -142,6 +152,14 @@ class Interface(unittest.TestCase):
                 self.assertEqual(value.__module__, f"setitback.{name}", function)
                 if parameters:
                     self.assertEqual(",".join(inspect.signature(value).parameters) + ")", parameters, function)
+
+    def test_methods_stand_in_their_classes(self):
+        for name, told in CLASSES.items():
+            file, _, word = name.partition(".")
+            methods = vars(getattr(importlib.import_module(f"setitback.{file}"), word))
+            for signature in told.split():
+                method, _, parameters = signature.partition("(")
+                self.assertEqual(",".join(list(inspect.signature(methods[method]).parameters)[1:]) + ")", parameters, method)
 
 
 if __name__ == "__main__":
