@@ -1,29 +1,14 @@
 """The hotel: an endless machine that loses nothing, for a start that crosses a tight lot of an even bond."""
 
-from math import lcm
-
-from setitback.anyvalue import is_below, is_number
+from setitback.anyvalue import is_below
 from setitback.bonds import check_bond, check_side
-from setitback.errors import NoFilling, NoSituation, Refused
+from setitback.endless import check_endless, check_number
+from setitback.errors import NoFilling, Refused
 from setitback.lots import is_pair_of
 from setitback.machines import run_of, setting_of
 from setitback.tight import is_crossing
 from setitback.weaving import copies, showing
 from setitback.weights import least_balanced_with
-
-
-def check_number(value):
-    """Any value as a number; Refused if it is none."""
-    if not is_number(value):
-        raise Refused(value)
-    return value
-
-
-def check_endless(situation):
-    """Any value as a situation of an endless machine; NoSituation if it is none."""
-    if not is_number(situation):
-        raise NoSituation(situation)
-    return situation
 
 
 class Hotel:

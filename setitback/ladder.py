@@ -1,7 +1,7 @@
 """The ladder of a bond whose greatest quotients come to more than 1: its rows and columns, and its layers."""
 
-from setitback.anyvalue import is_number
 from setitback.bonds import check_bond
+from setitback.endless import check_from_one, check_number
 from setitback.errors import Refused
 from setitback.lots import product_of_greatest
 from setitback.rungs import Rungs, enough_for, first_rung, greatest_two, next_rung
@@ -16,18 +16,11 @@ def check_uneven(value):
     return bond
 
 
-def check_great(great, many):
-    """Any values as an integer from 1 on and a number; Refused with the first that is none."""
-    if not is_number(great) or great == 0:
-        raise Refused(great)
-    if not is_number(many):
-        raise Refused(many)
-
-
 def steps(bond, great, many):
     """(Rows a_0 to a_many, columns b_0 to b_many)."""
     bond = check_uneven(bond)
-    check_great(great, many)
+    great = check_from_one(great)
+    many = check_number(many)
     quotients = greatest_two(bond)
     rungs = [first_rung(quotients, great)]
     for _ in range(many):
@@ -44,7 +37,8 @@ def layers(bond, start, great, many):
     """So many layers, each a weight of the carried pairs; Refused(great) if one of them cannot be made."""
     bond = check_uneven(bond)
     pair = check_start(bond, start)
-    check_great(great, many)
+    great = check_from_one(great)
+    many = check_number(many)
     rungs = Rungs(bond, carried_of(bond), pair, great)
     made = []
     for _ in range(many):

@@ -1,19 +1,7 @@
 """Lots of bonds that were looked at already: what fits them, and which there are."""
 
-from math import gcd
-
 from setitback.anyvalue import is_below, is_row
-
-
-def lowest_terms(top, bottom):
-    """A fraction: top by bottom, without a common divisor."""
-    common = gcd(top, bottom)
-    return top // common, bottom // common
-
-
-def is_above(one, other):
-    """Whether the one fraction is worth more than the other."""
-    return one[0] * other[1] > other[0] * one[1]
+from setitback.quotients import is_above, lowest_terms
 
 
 def partners_of(bond, side, lot):

@@ -4,14 +4,10 @@ from math import isqrt
 
 from setitback.carrying import least_between
 from setitback.lots import greatest_of
+from setitback.quotients import rounded_up
 
 # With such a rise at first, rows and columns rise for ever by enough for all layers.
 LEAST_RISE = 252
-
-
-def rounded_up(fraction, many):
-    """So many times a fraction, rounded up."""
-    return -(-many * fraction[0] // fraction[1])
 
 
 def next_root(top, bottom):
@@ -50,6 +46,14 @@ def enough_for(quotients):
         great = 2 * great
 
 
+def rung_at(quotients, great, many):
+    """(a_many, b_many)."""
+    rung = first_rung(quotients, great)
+    for _ in range(many):
+        rung = next_rung(quotients, rung)
+    return rung
+
+
 class Rungs:
     """The layers of a ladder, made one behind another; what has come into each row and column so far."""
 
@@ -57,13 +61,13 @@ class Rungs:
         self._bond = (bond[0], bond[1], pairs)
         self._quotients = greatest_two(bond)
         self._rung = first_rung(self._quotients, great)
-        self._came = [[1 if start[side] == filling else 0 for filling in range(bond[side])] for side in (0, 1)]
+        self.came = [[1 if start[side] == filling else 0 for filling in range(bond[side])] for side in (0, 1)]
 
     def next_layer(self):
         """The weight of the next layer; None if it cannot be made."""
         above = next_rung(self._quotients, self._rung)
-        lows = [[max(0, self._rung[side] - came) for came in self._came[side]] for side in (0, 1)]
-        highs = [[above[side] - came for came in self._came[side]] for side in (0, 1)]
+        lows = [[max(0, self._rung[side] - came) for came in self.came[side]] for side in (0, 1)]
+        highs = [[above[side] - came for came in self.came[side]] for side in (0, 1)]
         if any([low > high for side in (0, 1) for low, high in zip(lows[side], highs[side])]):
             return None
         pairs = self._bond[2]
@@ -72,5 +76,5 @@ class Rungs:
             self._rung = above
             for pair, many in zip(pairs, weight):
                 for side in (0, 1):
-                    self._came[side][pair[side]] = self._came[side][pair[side]] + many
+                    self.came[side][pair[side]] = self.came[side][pair[side]] + many
         return weight

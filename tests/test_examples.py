@@ -1,4 +1,4 @@
-"""The document's own examples of chapters 3 to 12, as they stand there."""
+"""The document's own examples of chapters 3 to 15, as they stand there."""
 
 import doctest
 import unittest
@@ -118,6 +118,52 @@ LADDER = """
 >>> view = (3, 2, ((0, 0), (1, 0), (2, 1)))
 >>> steps(view, 2, 3), layers(view, (0, 0), 2, 2), enough(view)
 (((2, 4, 6, 10), (3, 5, 9, 13)), ((1, 2, 3), (2, 2, 2)), 1024)
+>>> from setitback.growing import Growing
+>>> growing = Growing(view, (0, 0))
+>>> growing.weight(0), growing.weight(1), growing.within(4)
+((1023, 1024, 1448), (425, 425, 601), (4, 11602))
+>>> growing.put(0, (0, 1)), growing.put(1024, (1, 1)), growing.put(3072, (0, 0)), growing.layer(3496)
+(1024, 3072, 3496, 1)
+>>> growing.led(3496, ((0, 2), (1, 0), (0, 0)))
+0
+"""
+
+BALLS = """
+>>> from setitback.balls import counted, due, judged, levels, narrow, narrow_number, told_number
+>>> desk, corner = (3, 2, ((0, 0), (1, 0), (2, 1))), (2, 2, ((0, 0), (0, 1), (1, 1)))
+>>> machine = (0, desk[2], (((0, 1, 2), (0, 2)), ((0, 1, 2), (1, 2)), ((0, 1, 2), (0, 2))))
+>>> counted(machine, 2), due(desk, (0, 0), 3)
+(((1, 1, 1), (3, 1, 2), (3, 1, 2)), ((1, 1, 1), (3, 1, 2), (4, 2, 2), (6, 2, 4)))
+>>> judged(machine), levels(machine), narrow(machine)
+(('loses', 3, 1, (((0, 1),), (1, 1), ())), (((),), (((0, 0),), ((0, 1),))), (((0, 1),), (1, 1), ()))
+>>> told_number(corner, (0, 1), 5), told_number(corner, (0, 0), 5), told_number(corner, (0, 0), 1), narrow_number(desk, 3)
+(4, None, 0, 2)
+"""
+
+VIEWS = """
+>>> from setitback.views import complement, fewest, fibres, from_complement, put_back, spread, view_bond, view_of
+>>> alike, free = (0, 1, 0, 1), (0, 0, 0, 1)
+>>> fibres(alike), fibres(free), spread(alike), spread(free), fewest(free, 5)
+(((0, 2), (1, 3)), ((0, 1, 2), (3,)), (1, 1), (3, 1), 9)
+>>> complement(alike, 3), put_back(alike, 0, 1), put_back(alike, 3, 0), from_complement(alike, 1, 1)
+(1, 1, 2, 3)
+>>> view_bond(free), view_of(view_bond(alike))
+((4, 2, ((0, 0), (1, 0), (2, 0), (3, 1))), (0, 1, 0, 1))
+"""
+
+TREES = """
+>>> from setitback.glued import glued, glued_holds, led_through
+>>> from setitback.trees import barring, edge_bond, fewest_situations, fitting
+>>> tree = ((2, 2, 2), ((0, 1, ((0, 0), (1, 1))), (1, 2, ((0, 0), (1, 0), (1, 1)))))
+>>> fitting(tree), edge_bond(tree, 1)
+(((0, 0, 0), (1, 1, 0), (1, 1, 1)), (2, 2, ((0, 0), (1, 0), (1, 1))))
+>>> barring(tree, (1, 1, 0)), barring(tree, (0, 0, 0)), fewest_situations(tree, (0, 0, 0)), fewest_situations(tree, (1, 1, 0))
+(1, None, 2, None)
+>>> machine = (0, ((0, 0, 0), (1, 1, 1)), (((0, 1), (0, 1), (0, 1)), ((0, 1), (0, 1), (0, 1))))
+>>> glued_holds(tree, (0, 0, 0), machine), glued_holds(tree, (1, 1, 1), machine), glued_holds(tree, (0, 0, 0), glued(tree, (0, 0, 0)))
+(True, False, True)
+>>> led_through(tree, (0, 0, 0), machine, [(2, 1), (0, 0)])
+((0, 0, 0), (1, 1, 1), (0, 0, 0))
 """
 
 
@@ -161,6 +207,15 @@ class Examples(unittest.TestCase):
 
     def test_chapter_12(self):
         run_examples(self, LADDER)
+
+    def test_chapter_13(self):
+        run_examples(self, BALLS)
+
+    def test_chapter_14(self):
+        run_examples(self, VIEWS)
+
+    def test_chapter_15(self):
+        run_examples(self, TREES)
 
 
 if __name__ == "__main__":

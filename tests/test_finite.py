@@ -6,7 +6,7 @@ from random import Random
 
 from helpers import (
     EVEN, NO_MACHINES, RIGHT, VIEW, Checks, all_machines, any_values, bonds_of, full, is_even, is_tuples, listed, refuses,
-    same, settings, small_bonds, some_bonds, step,
+    same, small_bonds, some_bonds, step,
 )
 from lossless_words import classes_by_words, crosses, even_bonds, lossless_machine, lossless_machines, mixed_machines, some_weight
 from test_bonds import NO_BONDS
@@ -323,7 +323,6 @@ class Wrong(Checks, unittest.TestCase):
         self.takes_lists(orbits, least, 1)
         for found in (machine_of(listed(VIEW), [2, 1, 1, 2], [0, 1]), least_machine(listed(VIEW), [0, 1]), orbits(listed(least), 1)):
             self.assertTrue(is_tuples(found))
-        self.assertEqual(len(settings(VIEW)), 5)
 
 
 if __name__ == "__main__":

@@ -38,10 +38,19 @@ INTERFACE = {
               " orbits(machine,side) woven(bond,kinds,start,rows,columns)",
     "hotel": "Hotel(bond,start)",
     "ladder": "steps(bond,great,many) enough(bond) layers(bond,start,great,many)",
+    "growing": "Growing(bond,start)",
+    "balls": "counted(machine,many) due(bond,start,many) levels(machine) narrow(machine) narrow_number(bond,many)"
+             " told_number(bond,start,many) judged(machine)",
+    "views": "check_view(value) view_bond(view) is_view(bond) view_of(bond) fibres(view) spread(view) fewest(view,many)"
+             " complement(view,s) put_back(view,s,t) from_complement(view,place,t)",
+    "trees": "check_tree(value) edge_bond(tree,at) fitting(tree) barring(tree,start) fewest_situations(tree,start)",
+    "glued": "glued(tree,start) glued_holds(tree,start,value) led_through(tree,start,machine,run)",
 }
 CLASSES = {
     "hotel.Hotel": "shown(situation) layer(situation) rank(situation,side) nth(side,filling,rank) put(situation,setting)"
                    " led(situation,run) within(many)",
+    "growing.Growing": "shown(situation) layer(situation) rank(situation,side) nth(side,filling,rank) put(situation,setting)"
+                       " led(situation,run) weight(layer) within(many)",
 }
 
 
