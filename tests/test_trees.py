@@ -101,6 +101,7 @@ NO_TREES = [
     ((TREE[0], ((None, 1, DIAGONAL), TREE[1][1])), 2), ((TREE[0], ((0, "1", DIAGONAL), TREE[1][1])), 2),
     ((TREE[0], (TREE[1][0], None)), 3), ((TREE[0], (TREE[1][0], (1, 3, CORNER))), 3), ((TREE[0], (TREE[1][0], TREE[1][0])), 3),
     ((TREE[0], (TREE[1][1], TREE[1][0])), 3), ((TREE[0], (TREE[1][0], (0, 1, CORNER))), 3), ((TREE[0], (TREE[1][0], (1, 2, ((0, 0), (1, 0))))), 3),
+    (((2, 2, 2, 2), ((0, 1, DIAGONAL), (1, 3, DIAGONAL), (1, 2, DIAGONAL))), 4),
     (((2, 2, 2, 2), ((0, 1, DIAGONAL), (0, 2, DIAGONAL), (1, 2, DIAGONAL))), 5),
     (((2, 2, 2, 2), ((1, 2, DIAGONAL), (1, 3, DIAGONAL), (2, 3, DIAGONAL))), 5),
 ]
