@@ -1,6 +1,6 @@
 """Bonds: which fillings of two forms fit. Lots of them, bonds made of bonds, rules and octets."""
 
-from setitback.anyvalue import is_below, is_lot, is_row, is_row_below, is_sequence, is_side, is_within
+from setitback.anyvalue import is_below, is_lot, is_pair_below, is_row, is_row_below, is_sequence, is_side, is_within
 from setitback.errors import BadBond, Broken, NoFilling, Refused
 from setitback.forms import MOST_FILLINGS, check_fields, filling_count, row_of
 from setitback.lots import only_of, partners_of, pieces_of, quotient_of
@@ -11,7 +11,7 @@ def check_pairs(m, n, value):
     """A sequence as ascending pairs of fillings; BadBond with the first that is none."""
     pairs = []
     for at, pair in enumerate(value):
-        if not is_row_below(pair, (m, n)):
+        if not is_pair_below(pair, m, n):
             raise BadBond(3 + at)
         if at > 0 and tuple(pair) <= pairs[at - 1]:
             raise BadBond(3 + at)

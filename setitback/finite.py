@@ -8,14 +8,14 @@ from setitback.bonds import check_bond, check_side
 from setitback.carrying import are_alike_shares, shares_of
 from setitback.errors import BadMachine, Refused
 from setitback.lossless import kept_of, loss_of
-from setitback.machines import MOST_SITUATIONS, bonded, is_kinds, machine_with
+from setitback.machines import MOST_SITUATIONS, bonded, kinds_with, machine_with
 from setitback.shares import weight_with
 from setitback.tight import check_start
 from setitback.weaving import copies, moves_by_place, woven_moves
 from setitback.weights import least_balanced_with
 
 
-def machine_from(bond, weight, pair):
+def machine_out_of(bond, weight, pair):
     """The machine out of a weight, all three looked at, the weight having the start's pair."""
     kinds = copies(bond[2], weight)
     return kinds.index(pair), kinds, moves_by_place(kinds, bond[:2])
@@ -36,7 +36,7 @@ def machine_of(bond, weight, start):
     pair = check_start(bond, start)
     if weight[bond[2].index(pair)] == 0:
         raise Refused(start)
-    return machine_from(bond, weight, pair)
+    return machine_out_of(bond, weight, pair)
 
 
 def weight_of(bond, machine):
@@ -52,7 +52,7 @@ def least_machine(bond, start):
     bond = check_bond(bond)
     pair = check_start(bond, start)
     weight = least_balanced_with(bond, pair)
-    return None if weight is None else machine_from(bond, weight, pair)
+    return None if weight is None else machine_out_of(bond, weight, pair)
 
 
 def is_least(machine):
@@ -98,11 +98,9 @@ def check_rows(value, kinds, side, many):
 def woven(bond, kinds, start, rows, columns):
     """The machine at which a setting of side 0 stays in its row of `rows`, one of side 1 in that of `columns`."""
     bond = check_bond(bond)
-    if not is_kinds(bond, kinds):
-        raise BadMachine(1)
+    kinds = kinds_with(bond, kinds)
     if not is_below(start, len(kinds)):
         raise BadMachine(0)
-    shows = tuple([tuple(pair) for pair in kinds])
-    rows = check_rows(rows, shows, 0, bond[0])
-    columns = check_rows(columns, shows, 1, bond[1])
-    return start, shows, woven_moves(len(shows), [rows, columns])
+    rows = check_rows(rows, kinds, 0, bond[0])
+    columns = check_rows(columns, kinds, 1, bond[1])
+    return start, kinds, woven_moves(len(kinds), [rows, columns])

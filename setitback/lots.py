@@ -1,7 +1,7 @@
 """Lots of bonds that were looked at already: what fits them, and which there are."""
 
-from setitback.anyvalue import is_below, is_row
-from setitback.quotients import is_above, lowest_terms
+from setitback.anyvalue import is_pair_below
+from setitback.quotients import lowest_terms
 
 
 def partners_of(bond, side, lot):
@@ -26,23 +26,53 @@ def lots_of(many):
     return sorted(lots, key=lambda lot: (len(lot), lot))
 
 
-def either_of(lots):
-    """The fillings that are in any of the lots, ascending."""
-    return tuple(sorted({filling for lot in lots for filling in lot}))
-
-
 def common_of(lots):
     """The fillings that are in all of the lots, of which there is one at least, ascending."""
     return tuple([filling for filling in lots[0] if all([filling in lot for lot in lots])])
 
 
+def lot_with(bits):
+    """The ascending fillings whose bits are set in a number."""
+    return tuple([filling for filling in range(bits.bit_length()) if bits >> filling & 1])
+
+
+def reaches(bond, side):
+    """By lot of a side, as the bits of a number, its partners likewise; lot 0, no filling at all, has none."""
+    near = [0] * bond[side]
+    for pair in bond[2]:
+        near[pair[side]] = near[pair[side]] | 1 << pair[1 - side]
+    reached = [0]
+    for partners in near:
+        reached = reached + [others | partners for others in reached]
+    return reached
+
+
+def bit_counts(width):
+    """By number of so many bits how many of them are set."""
+    counts = [0]
+    for _ in range(width):
+        counts = counts + [many + 1 for many in counts]
+    return counts
+
+
+def sized_lots(bond, side):
+    """(Lot, partners, how many the lot has, how many partners) by lot of a side, lots as the bits of numbers."""
+    counts = bit_counts(max(bond[0], bond[1]))
+    reached = reaches(bond, side)
+    return [(lot, reached[lot], counts[lot], counts[reached[lot]]) for lot in range(1, len(reached))]
+
+
 def greatest_of(bond, side):
     """(The greatest quotient of a lot of this side, the lot that has it and holds all others that have it)."""
-    quotients = [(quotient_of(bond, side, lot), lot) for lot in lots_of(bond[side])]
-    best = quotients[0][0]
-    for found, _ in quotients:
-        best = found if is_above(found, best) else best
-    return best, either_of([lot for found, lot in quotients if found == best])
+    best = (0, 1)
+    either = 0
+    for lot, _, many, others in sized_lots(bond, side):
+        if many * best[1] > best[0] * others:
+            best = (many, others)
+            either = lot
+        elif many * best[1] == best[0] * others:
+            either = either | lot
+    return lowest_terms(best[0], best[1]), lot_with(either)
 
 
 def product_of_greatest(bond):
@@ -73,6 +103,4 @@ def pieces_of(bond):
 
 def is_pair_of(bond, value):
     """Whether any value is a pair of the bond."""
-    if not is_row(value, 2) or not is_below(value[0], bond[0]) or not is_below(value[1], bond[1]):
-        return False
-    return tuple(value) in bond[2]
+    return is_pair_below(value, bond[0], bond[1]) and tuple(value) in bond[2]

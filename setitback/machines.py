@@ -1,10 +1,9 @@
 """Settings and runs of a bond; machines, and where settings lead in them."""
 
-from setitback.anyvalue import is_below, is_row, is_row_below, is_sequence, is_side
-from setitback.bonds import bond_with, check_bond
-from setitback.errors import BadBond, BadMachine, NoSituation, Refused
+from setitback.anyvalue import are_below, are_rows, is_below, is_row, is_sequence, is_side
+from setitback.bonds import check_bond
+from setitback.errors import BadMachine, NoSituation, Refused
 from setitback.forms import MOST_FILLINGS
-from setitback.lots import is_pair_of
 from setitback.situations import behind, behind_all, first_runs, renumbered, settings_in
 
 MOST_SITUATIONS = 400
@@ -44,26 +43,58 @@ def settings_of(bond):
     return tuple(settings_in(check_bond(bond)))
 
 
-def is_kinds(bond, value):
-    """Whether any value gives some situations a pair of the bond each."""
-    if not is_sequence(value) or not 1 <= len(value) <= MOST_SITUATIONS:
-        return False
-    return all([is_pair_of(bond, pair) for pair in value])
+def kinds_of(value):
+    """Any value as 1 to 400 pairs of numbers that can be fillings, of tuples; BadMachine(1) if it is none."""
+    if not is_sequence(value) or not 1 <= len(value) <= MOST_SITUATIONS or not are_rows(value, 2):
+        raise BadMachine(1)
+    if not are_below([filling for pair in value for filling in pair], MOST_FILLINGS):
+        raise BadMachine(1)
+    return tuple([tuple(pair) for pair in value])
 
 
-def is_move_row(value, side, kinds):
-    """Whether any value leads from one filling of a side after another to a situation that shows it."""
-    if not all([is_below(found, len(kinds)) for found in value]):
-        return False
-    return all([kinds[found][side] == filling for filling, found in enumerate(value)])
+def kinds_with(bond, value):
+    """Any value as the kinds of a machine of a bond that was looked at, of tuples; BadMachine(1) if it is none."""
+    kinds = kinds_of(value)
+    if not all([pair in bond[2] for pair in sorted(set(kinds))]):
+        raise BadMachine(1)
+    return kinds
 
 
-def are_moves(bond, kinds, value):
-    """Whether any value leads from each situation as a machine with these kinds must."""
-    if not is_row(value, len(kinds)) or not all([is_row(rows, 2) for rows in value]):
-        return False
-    sided = [(side, rows[side]) for rows in value for side in (0, 1)]
-    return all([is_row(row, bond[side]) and is_move_row(row, side, kinds) for side, row in sided])
+def bond_shown(kinds):
+    """The bond of the pairs that kinds show; BadMachine(1) if they are no bond's."""
+    pairs = sorted(set(kinds))
+    rows = sorted({s for s, _ in pairs})
+    columns = sorted({t for _, t in pairs})
+    if rows[-1] >= len(rows) or columns[-1] >= len(columns):
+        raise BadMachine(1)
+    return len(rows), len(columns), tuple(pairs)
+
+
+def leads_rightly(kinds, side, many, rows):
+    """Whether rows of situations, by filling of a side, of which there are so many, lead to what shows the filling."""
+    return [kinds[found][side] for row in rows for found in row] == list(range(many)) * len(rows)
+
+
+def moves_with(bond, kinds, value):
+    """Any value as the moves of a machine with these kinds, of tuples; BadMachine(2) if it is none."""
+    if not is_row(value, len(kinds)) or not are_rows(value, 2):
+        raise BadMachine(2)
+    left = [rows for rows, _ in value]
+    right = [rows for _, rows in value]
+    if not are_rows(left, bond[0]) or not are_rows(right, bond[1]):
+        raise BadMachine(2)
+    if not are_below([found for row in left + right for found in row], len(kinds)):
+        raise BadMachine(2)
+    if not leads_rightly(kinds, 0, bond[0], left) or not leads_rightly(kinds, 1, bond[1], right):
+        raise BadMachine(2)
+    return tuple([(tuple(row), tuple(column)) for row, column in zip(left, right)])
+
+
+def machine_from(bond, kinds, start, moves):
+    """The machine of kinds that were looked at and any values as its start and moves; BadMachine if they are none."""
+    if not is_below(start, len(kinds)):
+        raise BadMachine(0)
+    return start, kinds, moves_with(bond, kinds, moves)
 
 
 def machine_with(bond, value):
@@ -71,14 +102,7 @@ def machine_with(bond, value):
     if not is_row(value, 3):
         raise BadMachine(-1)
     start, kinds, moves = value
-    if not is_kinds(bond, kinds):
-        raise BadMachine(1)
-    if not is_below(start, len(kinds)):
-        raise BadMachine(0)
-    if not are_moves(bond, kinds, moves):
-        raise BadMachine(2)
-    shows = tuple([tuple(pair) for pair in kinds])
-    return start, shows, tuple([tuple([tuple(row) for row in rows]) for rows in moves])
+    return machine_from(bond, kinds_with(bond, kinds), start, moves)
 
 
 def check_machine(bond, value):
@@ -86,26 +110,14 @@ def check_machine(bond, value):
     return machine_with(check_bond(bond), value)
 
 
-def bond_shown(kinds):
-    """The bond of the pairs that any value as kinds shows; BadMachine if they are no bond's."""
-    if not is_sequence(kinds) or not 1 <= len(kinds) <= MOST_SITUATIONS:
-        raise BadMachine(1)
-    if not all([is_row_below(pair, (MOST_FILLINGS, MOST_FILLINGS)) for pair in kinds]):
-        raise BadMachine(1)
-    pairs = [tuple(pair) for pair in kinds]
-    sizes = [1 + max([pair[side] for pair in pairs]) for side in (0, 1)]
-    try:
-        return bond_with(sizes[0], sizes[1], pairs)
-    except BadBond:
-        raise BadMachine(1) from None
-
-
 def bonded(value):
     """(The bond of the pairs shown, the machine) of any value; BadMachine if it is no machine."""
     if not is_row(value, 3):
         raise BadMachine(-1)
-    bond = bond_shown(value[1])
-    return bond, machine_with(bond, value)
+    start, kinds, moves = value
+    kinds = kinds_of(kinds)
+    bond = bond_shown(kinds)
+    return bond, machine_from(bond, kinds, start, moves)
 
 
 def check_situation(machine, situation):

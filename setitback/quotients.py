@@ -1,4 +1,4 @@
-"""Fractions (top, bottom): in lowest terms, which is worth more, so many times one, and powers, rounded up."""
+"""Fractions (top, bottom): in lowest terms, and so many times one, or a power of one, rounded up."""
 
 from math import gcd
 
@@ -7,11 +7,6 @@ def lowest_terms(top, bottom):
     """A fraction: top by bottom, without a common divisor."""
     common = gcd(top, bottom)
     return top // common, bottom // common
-
-
-def is_above(one, other):
-    """Whether the one fraction is worth more than the other."""
-    return one[0] * other[1] > other[0] * one[1]
 
 
 def rounded_up(fraction, many):

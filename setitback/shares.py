@@ -4,7 +4,7 @@ from setitback.anyvalue import is_lot, is_number, is_row, is_word
 from setitback.bonds import check_bond, check_side
 from setitback.carrying import are_alike_shares, least_weight, shares_of
 from setitback.errors import BadWeight, Refused
-from setitback.lots import either_of, greatest_of, lots_of, partners_of, product_of_greatest, quotient_of
+from setitback.lots import greatest_of, lot_with, partners_of, product_of_greatest, quotient_of, sized_lots
 
 
 def check_price(price):
@@ -21,9 +21,16 @@ def worth_at(bond, side, lot, price):
 
 def worthiest(bond, side, price):
     """Of the lots that are worth most, none at all among them, the one that holds all others."""
-    worths = [(worth_at(bond, side, lot, price), lot) for lot in [()] + lots_of(bond[side])]
-    most = max([worth for worth, _ in worths])
-    return either_of([lot for worth, lot in worths if worth == most])
+    most = 0
+    either = 0
+    for lot, _, many, others in sized_lots(bond, side):
+        worth = price[1] * many - price[0] * others
+        if worth > most:
+            most = worth
+            either = lot
+        elif worth == most:
+            either = either | lot
+    return lot_with(either)
 
 
 def lot_at(bond, side, price):

@@ -34,18 +34,17 @@ def back_again(machine, situation, setting):
 
 def first_runs(machine):
     """By situation that can come its first run, in the order of these runs."""
-    settings = settings_on(machine)
     runs = {machine[0]: ()}
     queue = [machine[0]]
     done = 0
     while done < len(queue):
         situation = queue[done]
         done += 1
-        for setting in settings:
-            found = behind(machine, situation, setting)
-            if found not in runs:
-                runs[found] = runs[situation] + (setting,)
-                queue.append(found)
+        for side, row in enumerate(machine[2][situation]):
+            for filling, found in enumerate(row):
+                if found not in runs:
+                    runs[found] = runs[situation] + ((side, filling),)
+                    queue.append(found)
     return runs
 
 
@@ -72,10 +71,9 @@ def numbered(marks):
 def alikeness(machine):
     """By situation a number, the same just for alike ones."""
     groups = numbered(machine[1])
+    following = [left + right for left, right in machine[2]]
     while True:
-        marks = []
-        for group, rows in zip(groups, machine[2]):
-            marks.append((group, tuple([groups[found] for row in rows for found in row])))
+        marks = [(group, tuple([groups[found] for found in row])) for group, row in zip(groups, following)]
         finer = numbered(marks)
         # Marks hold the group, so groups only part; as many as before are the same ones.
         if max(finer) == max(groups):
@@ -87,18 +85,17 @@ def parting_run(one, x, other, y):
     """The first run behind which x of the one machine and y of the other show unlike pairs; None if none does."""
     if one[1][x] != other[1][y]:
         return ()
-    settings = settings_on(one)
     seen = {(x, y): True}
     queue = [(x, y, ())]
     done = 0
     while done < len(queue):
         x, y, run = queue[done]
         done += 1
-        for setting in settings:
-            found = (behind(one, x, setting), behind(other, y, setting))
-            if one[1][found[0]] != other[1][found[1]]:
-                return run + (setting,)
-            if found not in seen:
-                seen[found] = True
-                queue.append((found[0], found[1], run + (setting,)))
+        for side in (0, 1):
+            for filling, found in enumerate(zip(one[2][x][side], other[2][y][side])):
+                if one[1][found[0]] != other[1][found[1]]:
+                    return run + ((side, filling),)
+                if found not in seen:
+                    seen[found] = True
+                    queue.append((found[0], found[1], run + ((side, filling),)))
     return None

@@ -3,7 +3,9 @@
 from setitback.anyvalue import is_below
 from setitback.bonds import check_bond, check_lot, check_side
 from setitback.errors import NoFilling, Refused
-from setitback.lots import common_of, greatest_of, is_pair_of, lots_of, partners_of, pieces_of, product_of_greatest
+from setitback.lots import (
+    common_of, greatest_of, is_pair_of, lot_with, partners_of, pieces_of, product_of_greatest, sized_lots,
+)
 
 
 def is_tight_of(bond, side, lot):
@@ -32,9 +34,15 @@ def check_start(bond, start):
     return tuple(start)
 
 
+def tight_sized(bond, side):
+    """(Lot, partners) of all tight lots of a side, as the bits of numbers."""
+    lots = sized_lots(bond, side)
+    return [(lot, reached) for lot, reached, many, others in lots if many * bond[1 - side] == others * bond[side]]
+
+
 def tight_of(bond, side):
     """All tight lots of a side: those of fewer fillings first, then ascending."""
-    return [lot for lot in lots_of(bond[side]) if is_tight_of(bond, side, lot)]
+    return sorted([lot_with(lot) for lot, _ in tight_sized(bond, side)], key=lambda lot: (len(lot), lot))
 
 
 def tight_lots(bond, side):
@@ -58,15 +66,20 @@ def bars(bond, side, lot, pair):
 
 
 def greatest_lots(bond, side):
-    """All lots of this side that have its greatest quotient."""
+    """(Lot, partners) of all lots of this side that have its greatest quotient, as the bits of numbers."""
     top, bottom = greatest_of(bond, side)[0]
-    return [lot for lot in lots_of(bond[side]) if len(lot) * bottom == len(partners_of(bond, side, lot)) * top]
+    return [(lot, reached) for lot, reached, many, others in sized_lots(bond, side) if many * bottom == others * top]
+
+
+def barring_lots(lots, filling, other):
+    """Of lots with their partners, as the bits of numbers, those that do not have a filling but the other one there."""
+    return [lot for lot, reached in lots if reached >> other & 1 and not lot >> filling & 1]
 
 
 def carried_of(bond):
     """The carried pairs of a bond that was looked at."""
-    lots = [(side, lot) for side in (0, 1) for lot in greatest_lots(bond, side)]
-    return tuple([pair for pair in bond[2] if not any([bars(bond, side, lot, pair) for side, lot in lots])])
+    lots = [greatest_lots(bond, side) for side in (0, 1)]
+    return tuple([(s, t) for s, t in bond[2] if not barring_lots(lots[0], s, t) and not barring_lots(lots[1], t, s)])
 
 
 def carried(bond):
@@ -95,8 +108,8 @@ def blocks(bond):
 
 def crossed_by(bond, pair):
     """Of the tight lots that a start crosses the one that lies in all others, or None; bond and start looked at."""
-    crossed = [lot for lot in tight_of(bond, 0) if bars(bond, 0, lot, pair)]
-    return common_of(crossed) if crossed else None
+    crossed = barring_lots(tight_sized(bond, 0), pair[0], pair[1])
+    return common_of([lot_with(lot) for lot in crossed]) if crossed else None
 
 
 def is_bounded(bond, pair):
