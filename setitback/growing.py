@@ -2,10 +2,9 @@
 
 from setitback.anyvalue import is_below
 from setitback.bonds import check_bond, check_side
-from setitback.endless import check_endless, check_number
+from setitback.endless import check_endless, check_number, led_from, put_at
 from setitback.errors import NoFilling, Refused
 from setitback.lots import is_pair_of, product_of_greatest
-from setitback.machines import run_of, setting_of
 from setitback.quotients import power_rounded_up
 from setitback.rungs import Rungs, enough_for, greatest_two, rung_at
 from setitback.tight import carried_of
@@ -109,16 +108,11 @@ class Growing:
 
     def put(self, situation, setting):
         """The situation behind a setting: the one of the same rank among those that show what is set."""
-        check_endless(situation)
-        side, filling = setting_of(self.bond, setting)
-        return self.nth(side, filling, self.rank(situation, side))
+        return put_at(self, situation, setting)
 
     def led(self, situation, run):
         """The situation behind a run."""
-        check_endless(situation)
-        for side, filling in run_of(self.bond, run):
-            situation = self.nth(side, filling, self.rank(situation, side))
-        return situation
+        return led_from(self, situation, run)
 
     def weight(self, layer):
         """The weight of a layer, by the carried pairs."""

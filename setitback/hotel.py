@@ -2,10 +2,9 @@
 
 from setitback.anyvalue import is_below
 from setitback.bonds import check_bond, check_side
-from setitback.endless import check_endless, check_number
+from setitback.endless import check_endless, check_number, led_from, put_at
 from setitback.errors import NoFilling, Refused
 from setitback.lots import is_pair_of
-from setitback.machines import run_of, setting_of
 from setitback.tight import is_crossing
 from setitback.weaving import copies, showing
 from setitback.weights import least_balanced_with
@@ -57,16 +56,11 @@ class Hotel:
 
     def put(self, situation, setting):
         """The situation behind a setting: the one of the same rank among those that show what is set."""
-        check_endless(situation)
-        side, filling = setting_of(self.bond, setting)
-        return self.nth(side, filling, self.rank(situation, side))
+        return put_at(self, situation, setting)
 
     def led(self, situation, run):
         """The situation behind a run."""
-        check_endless(situation)
-        for side, filling in run_of(self.bond, run):
-            situation = self.nth(side, filling, self.rank(situation, side))
-        return situation
+        return led_from(self, situation, run)
 
     def within(self, many):
         """(The least number of situations within so many settings, the most that are met here)."""
