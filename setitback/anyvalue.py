@@ -5,6 +5,11 @@ def is_number(value):
     return isinstance(value, int) and not isinstance(value, bool) and value >= 0
 
 
+def is_whole(value):
+    """Whether it is an integer."""
+    return isinstance(value, int) and not isinstance(value, bool)
+
+
 def is_within(value, low, high):
     """Whether it is an integer from low to high."""
     return isinstance(value, int) and not isinstance(value, bool) and low <= value <= high
@@ -22,6 +27,16 @@ def is_sequence(value):
 def is_row(value, many):
     """Whether it is a sequence of so many things."""
     return (isinstance(value, tuple) or isinstance(value, list)) and len(value) == many
+
+
+def are_numbers(value, many):
+    """Whether it is a sequence of so many numbers."""
+    return is_row(value, many) and all([is_number(part) for part in value])
+
+
+def are_within(value, low, high):
+    """Whether it is a sequence of integers from low to high, perhaps of none."""
+    return is_sequence(value) and all([is_within(part, low, high) for part in value])
 
 
 def is_row_below(value, limits):

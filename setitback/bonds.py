@@ -3,7 +3,7 @@
 from setitback.anyvalue import is_below, is_lot, is_pair_below, is_row, is_row_below, is_sequence, is_side, is_within
 from setitback.errors import BadBond, Broken, NoFilling, Refused
 from setitback.forms import MOST_FILLINGS, check_fields, filling_count, row_of
-from setitback.lots import only_of, partners_of, pieces_of, quotient_of
+from setitback.lots import degrees_of, only_of, partners_of, pieces_of, quotient_of
 from setitback.octets import check_octets, check_place, octet_at
 
 
@@ -43,6 +43,13 @@ def check_side(side):
     return side
 
 
+def check_filling(filling, many):
+    """Any value as a filling, of which there are so many; NoFilling if it is none."""
+    if not is_below(filling, many):
+        raise NoFilling(filling)
+    return filling
+
+
 def size_of(bond, side):
     """How many fillings a side has."""
     bond = check_bond(bond)
@@ -59,11 +66,7 @@ def check_lot(bond, side, value):
 def fits(bond, s, t):
     """Whether a filling of side 0 and one of side 1 fit."""
     m, n, pairs = check_bond(bond)
-    if not is_below(s, m):
-        raise NoFilling(s)
-    if not is_below(t, n):
-        raise NoFilling(t)
-    return (s, t) in pairs
+    return (check_filling(s, m), check_filling(t, n)) in pairs
 
 
 def partners(bond, side, lot):
@@ -81,8 +84,7 @@ def only(bond, side, lot):
 def degrees(bond, side):
     """By filling of this side how many fit it."""
     bond = check_bond(bond)
-    many = bond[check_side(side)]
-    return tuple([len(partners_of(bond, side, (filling,))) for filling in range(many)])
+    return degrees_of(bond, check_side(side))
 
 
 def quotient(bond, side, lot):

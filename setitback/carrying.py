@@ -25,13 +25,18 @@ def least_weight(bond, lows, low_shares, high_shares):
     return least_between(bond, lows, low_rows, [[high_shares[side]] * bond[side] for side in (0, 1)])
 
 
+def shares_by_form(sizes, rows, weight):
+    """By form and filling how much a weight gives the rows with this filling, together."""
+    shares = [[0] * many for many in sizes]
+    for row, number in zip(rows, weight):
+        for form, filling in enumerate(row):
+            shares[form][filling] = shares[form][filling] + number
+    return tuple([tuple(part) for part in shares])
+
+
 def shares_of(bond, weight):
     """(The shares of side 0, those of side 1)."""
-    shares = [[0] * bond[0], [0] * bond[1]]
-    for (s, t), number in zip(bond[2], weight):
-        shares[0][s] = shares[0][s] + number
-        shares[1][t] = shares[1][t] + number
-    return tuple(shares[0]), tuple(shares[1])
+    return shares_by_form(bond[:2], bond[2], weight)
 
 
 def are_alike_shares(shares):

@@ -29,13 +29,19 @@ def check_even_weight(bond, value):
     return weight
 
 
-def machine_of(bond, weight, start):
-    """The machine with each pair as many times as its weight, where settings keep the place among what they show."""
+def parts_of_machine(bond, weight, start):
+    """Any values as a bond, such a weight of it and a start to which this gives something, of tuples."""
     bond = check_bond(bond)
     weight = check_even_weight(bond, weight)
     pair = check_start(bond, start)
     if weight[bond[2].index(pair)] == 0:
         raise Refused(start)
+    return bond, weight, pair
+
+
+def machine_of(bond, weight, start):
+    """The machine with each pair as many times as its weight, where settings keep the place among what they show."""
+    bond, weight, pair = parts_of_machine(bond, weight, start)
     return machine_out_of(bond, weight, pair)
 
 

@@ -107,25 +107,29 @@ def write_run(run):
     return tuple([octet for setting in check_run(run) for octet in setting])
 
 
-def setting_from(octets, at):
-    """The setting that begins at a place of octets, both looked at already; Broken if none does."""
+def setting_from(octets, at, sizes):
+    """The setting that begins at a place of octets, of forms of such sizes; all looked at; Broken if none does."""
     side = octet_at(octets, at, 0, 1)
-    return side, octet_at(octets, at + 1, 0, MOST_FILLINGS - 1)
+    return side, octet_at(octets, at + 1, 0, sizes[side] - 1)
 
 
 def setting_at(octets, at):
     """(The setting whose octets begin at this place, the place behind them); Broken if none do."""
     octets = check_octets(octets)
     at = check_place(at)
-    return setting_from(octets, at), at + 2
+    return setting_from(octets, at, (MOST_FILLINGS, MOST_FILLINGS)), at + 2
 
 
-def read_run(octets):
-    """(The settings that stand from the beginning on, the place behind them); Broken if an octet is none of a run."""
-    octets = check_octets(octets)
-    whole = len(octets) - (len(octets) & 1)
-    run = tuple([setting_from(octets, at) for at in range(0, whole, 2)])
+def run_from(octets, at, sizes):
+    """(The settings that stand from a place on, the place behind them), likewise; Broken where an octet is none."""
+    whole = len(octets) - (len(octets) - at) % 2
+    run = tuple([setting_from(octets, place, sizes) for place in range(at, whole, 2)])
     if whole < len(octets):
         # What is cut off within a setting must at least begin one.
         octet_at(octets, whole, 0, 1)
     return run, whole
+
+
+def read_run(octets):
+    """(The settings that stand from the beginning on, the place behind them); Broken if an octet is none of a run."""
+    return run_from(check_octets(octets), 0, (MOST_FILLINGS, MOST_FILLINGS))

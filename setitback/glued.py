@@ -2,7 +2,8 @@
 
 from setitback.anyvalue import is_below, is_row, is_row_below, is_sequence
 from setitback.errors import Refused
-from setitback.trees import barring_of, bond_at_edge, check_row, check_tree, is_fitting, least_common
+from setitback.quotients import least_common
+from setitback.trees import barring_of, bond_at_edge, check_row, check_tree, is_fitting
 from setitback.weaving import copies, moves_by_place, showing
 from setitback.weights import least_balanced_with
 

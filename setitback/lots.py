@@ -20,6 +20,11 @@ def quotient_of(bond, side, lot):
     return lowest_terms(len(lot), len(partners_of(bond, side, lot)))
 
 
+def degrees_of(bond, side):
+    """By filling of a side how many fit it."""
+    return tuple([len(partners_of(bond, side, (filling,))) for filling in range(bond[side])])
+
+
 def lots_of(many):
     """All lots of so many fillings: those of fewer first, then ascending."""
     lots = [tuple([at for at in range(many) if which >> at & 1]) for which in range(1, 1 << many)]

@@ -1,6 +1,6 @@
-"""Fractions (top, bottom): in lowest terms, and so many times one, or a power of one, rounded up."""
+"""Fractions (top, bottom): in lowest terms, and so many times one, or a power of one, rounded up; common multiples."""
 
-from math import gcd
+from math import gcd, lcm
 
 
 def lowest_terms(top, bottom):
@@ -21,3 +21,11 @@ def power_rounded_up(fraction, many):
         top = top * fraction[0]
         bottom = bottom * fraction[1]
     return -(-top // bottom)
+
+
+def least_common(numbers):
+    """The least common multiple of all numbers."""
+    common = 1
+    for number in numbers:
+        common = lcm(common, number)
+    return common

@@ -1,6 +1,6 @@
 """The greatest quotients of lots, climbing to them by prices, and weights that show them."""
 
-from setitback.anyvalue import is_lot, is_number, is_row, is_word
+from setitback.anyvalue import are_numbers, is_lot, is_number, is_row, is_word
 from setitback.bonds import check_bond, check_side
 from setitback.carrying import are_alike_shares, least_weight, shares_of
 from setitback.errors import BadWeight, Refused
@@ -64,14 +64,19 @@ def product(bond):
     return product_of_greatest(check_bond(bond))
 
 
-def weight_with(bond, value):
-    """Any value as a weight of a bond that was looked at, a tuple; BadWeight if it is none."""
-    if not is_row(value, len(bond[2])):
+def weight_for(many, value):
+    """Any value as a weight of so many numbers, a tuple; BadWeight if it is none."""
+    if not is_row(value, many):
         raise BadWeight(-1)
     for at, number in enumerate(value):
         if not is_number(number):
             raise BadWeight(at)
     return tuple(value)
+
+
+def weight_with(bond, value):
+    """Any value as a weight of a bond that was looked at, a tuple; BadWeight if it is none."""
+    return weight_for(len(bond[2]), value)
 
 
 def check_weight(bond, value):
@@ -100,7 +105,7 @@ def quotient_paper(bond, side):
 
 def is_weight(bond, value):
     """Whether any value is a weight of a bond that was looked at."""
-    return is_row(value, len(bond[2])) and all([is_number(number) for number in value])
+    return are_numbers(value, len(bond[2]))
 
 
 def quotient_holds(bond, side, value):

@@ -1,10 +1,9 @@
 """Forms bound in a tree: what fits, and how few situations a lossless machine takes."""
 
-from math import lcm
-
-from setitback.anyvalue import is_below, is_row, is_row_below, is_sequence, is_within
+from setitback.anyvalue import are_within, is_below, is_row, is_row_below
 from setitback.bonds import check_bond
 from setitback.errors import BadBond, BadTree, Refused
+from setitback.quotients import least_common
 from setitback.tight import is_bounded
 
 FEWEST_FORMS = 2
@@ -14,9 +13,7 @@ MOST_OF_A_FORM = 4
 
 def are_sizes(value):
     """Whether any value tells how many fillings each of some forms has."""
-    if not is_sequence(value) or not FEWEST_FORMS <= len(value) <= MOST_FORMS:
-        return False
-    return all([is_within(many, 1, MOST_OF_A_FORM) for many in value])
+    return are_within(value, 1, MOST_OF_A_FORM) and FEWEST_FORMS <= len(value) <= MOST_FORMS
 
 
 def edge_with(sizes, value):
@@ -117,14 +114,6 @@ def barring(tree, start):
     """The index of the first edge whose bond is not even, or whose part of the start crosses a tight lot, or None."""
     tree = check_tree(tree)
     return barring_of(tree, check_row(tree, start))
-
-
-def least_common(sizes):
-    """The least common multiple of all sizes."""
-    common = 1
-    for many in sizes:
-        common = lcm(common, many)
-    return common
 
 
 def fewest_situations(tree, start):

@@ -1,9 +1,9 @@
 """Views: what side 1 shows of side 0, what setting it costs, and the complement where all fibres are alike."""
 
 from setitback.anyvalue import is_below, is_sequence
-from setitback.bonds import check_bond
+from setitback.bonds import check_bond, check_filling
 from setitback.endless import check_number
-from setitback.errors import NoFilling, Refused
+from setitback.errors import Refused
 from setitback.forms import MOST_FILLINGS
 from setitback.quotients import lowest_terms, power_rounded_up
 
@@ -80,13 +80,6 @@ def check_alike(value):
     if spread_of(view) != (1, 1):
         raise Refused(value)
     return view
-
-
-def check_filling(filling, many):
-    """Any value as a filling, of which there are so many; NoFilling if it is none."""
-    if not is_below(filling, many):
-        raise NoFilling(filling)
-    return filling
 
 
 def place_of(view, s):

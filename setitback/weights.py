@@ -49,6 +49,21 @@ def start_paper(bond, start):
     return "carried", weight
 
 
+def is_balanced_weight(bond, value):
+    """Whether any value is a balanced weight of a bond that was looked at."""
+    return is_weight(bond, value) and is_balanced_of(bond, value)
+
+
+def carries_start(bond, pair, value):
+    """Whether any value is a balanced weight in which a start is above 0, both looked at."""
+    return is_balanced_weight(bond, value) and value[bond[2].index(pair)] > 0
+
+
+def is_crossed_lot(bond, pair, value):
+    """Whether any value is a tight lot of side 0 that a start crosses, both looked at."""
+    return is_lot(value, bond[0]) and is_tight_of(bond, 0, value) and bars(bond, 0, value, pair)
+
+
 def start_holds(bond, start, value):
     """Whether any value is a paper of the start: a balanced weight that has it, or a tight lot that it crosses."""
     bond = check_even(bond)
@@ -56,10 +71,8 @@ def start_holds(bond, start, value):
     if not is_row(value, 2):
         return False
     if is_word(value[0], "carried"):
-        return is_weight(bond, value[1]) and is_balanced_of(bond, value[1]) and value[1][bond[2].index(pair)] > 0
-    if not is_word(value[0], "crossed") or not is_lot(value[1], bond[0]):
-        return False
-    return is_tight_of(bond, 0, value[1]) and bars(bond, 0, value[1], pair)
+        return carries_start(bond, pair, value[1])
+    return is_word(value[0], "crossed") and is_crossed_lot(bond, pair, value[1])
 
 
 def asked_of(bond, side, lot):
@@ -116,7 +129,7 @@ def is_lot_of(bond, side, lot):
 def is_told_anywhere(bond, side, lot, weight):
     """Whether a lot asks for just so much as a balanced weight has, with all pairs above 0."""
     many = asked_of(bond, side, lot)
-    if many is None or not is_weight(bond, weight) or not is_balanced_of(bond, weight):
+    if many is None or not is_balanced_weight(bond, weight):
         return False
     return min(weight) > 0 and sum(weight) == many * lcm(bond[0], bond[1])
 

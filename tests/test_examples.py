@@ -1,4 +1,4 @@
-"""The document's own examples of chapters 3 to 15, as they stand there."""
+"""The document's own examples of chapters 3 to 18, as they stand there."""
 
 import doctest
 import unittest
@@ -166,6 +166,48 @@ TREES = """
 ((0, 0, 0), (1, 1, 1), (0, 0, 0))
 """
 
+MANY = """
+>>> from setitback.many import least_step, plan_holds, plan_machine, plan_of, bound_holds
+>>> even, desk = plan_of((2, 2, ((0, 0), (1, 0), (1, 1)))), plan_of((3, 2, ((0, 0), (1, 0), (2, 0), (2, 1))))
+>>> plan_holds(even, (0, 0), ("carried", (2, 0, 2))), plan_holds(even, (1, 0), ["crossed", [[-1, 1], [1, -1]]]), desk
+(True, True, ((3, 2), ((0, 0), (1, 0), (2, 0), (2, 1))))
+>>> least_step(desk, 10), bound_holds(desk, (3, 2), ["weight", [2, 2, 0, 3]])
+(15, True)
+>>> bound_holds(desk, (5, 4), ("prices", ((-10, -10, 15), (11, -14)))), bound_holds(desk, (3, 2), ("prices", ((-10, -10, 15), (11, -14))))
+(True, False)
+>>> plan_machine(even, (1, 0, 1), (0, 0))
+(0, ((0, 0), (1, 1)), (((0, 1), (0, 1)), ((0, 1), (0, 1))))
+"""
+
+CHANGE = """
+>>> from setitback.change import bent, change, cheap_machine, cheapest, cheapest_holds, is_convex, line_change, line_of, table_of
+>>> square, new = (25, 16, 9, 4, 1, 0, 1, 4, 9, 16, 25), (1, 1, 1, 1, 1, 0, 1, 1, 1, 1, 1)
+>>> is_convex(square), bent(square), bent(new), line_change(new, (1, 2), (0, 1)), cheapest(table_of(new, 3), (1, 2), (0, 1))[0]
+(True, None, ((1, 2), (0, 1)), 2, 1)
+>>> view = (2, 3, ((0, 0), (0, 1), (1, 1), (1, 2)))
+>>> line_of(view, (2, 1, 1, 2), 0, 0), line_of(view, (2, 1, 1, 2), 0, 1), line_change(square, (0, 0, 1), (1, 2, 2))
+((0, 0, 1), (1, 2, 2), 6)
+>>> from setitback.finite import machine_of
+>>> change(machine_of(view, (2, 1, 1, 2), (0, 1)), 0, 0, 1, table_of(square, 3))
+6
+>>> change(cheap_machine(view, (2, 1, 1, 2), (0, 1), table_of(new, 2), table_of(new, 3)), 0, 0, 1, table_of(new, 3))
+2
+>>> cheapest_holds(table_of(new, 3), (1, 2), (0, 1), (1, (1, 0), ((0, 1), (0, 0))))
+True
+"""
+
+STILL = """
+>>> from setitback.still import is_still, still_bar, still_machine, still_weight, touched
+>>> ring = (3, 3, ((0, 0), (0, 1), (1, 1), (1, 2), (2, 0), (2, 2)))
+>>> still = still_machine(ring, (0, 0))
+>>> still_weight(ring), still[2][0], is_still(ring, still), touched(ring, (0, ((0, 0), (1, 1), (2, 2)), (((0, 1, 2),) * 2,) * 3))
+((1, 1, 1, 1, 1, 1), ((0, 3, 4), (0, 1, 3)), True, ((), (0, 2)))
+>>> still_bar((2, 2, ((0, 0), (0, 1), (1, 1)))), still_bar((3, 2, ((0, 0), (1, 0), (2, 1))))
+(('degree', 0, 0, 1), ('sizes', 0, 1))
+>>> still_weight((3, 3, ((0, 0), (1, 1), (1, 2), (2, 1), (2, 2)))), still_machine((2, 2, ((0, 0), (0, 1), (1, 1))), (0, 0))
+((2, 1, 1, 1, 1), None)
+"""
+
 
 def run_examples(case, text):
     """Run the examples of a chapter; a test that fails shows what they printed."""
@@ -216,6 +258,15 @@ class Examples(unittest.TestCase):
 
     def test_chapter_15(self):
         run_examples(self, TREES)
+
+    def test_chapter_16(self):
+        run_examples(self, MANY)
+
+    def test_chapter_17(self):
+        run_examples(self, CHANGE)
+
+    def test_chapter_18(self):
+        run_examples(self, STILL)
 
 
 if __name__ == "__main__":

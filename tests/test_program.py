@@ -45,6 +45,13 @@ INTERFACE = {
              " complement(view,s) put_back(view,s,t) from_complement(view,place,t)",
     "trees": "check_tree(value) edge_bond(tree,at) fitting(tree) barring(tree,start) fewest_situations(tree,start)",
     "glued": "glued(tree,start) glued_holds(tree,start,value) led_through(tree,start,machine,run)",
+    "plans": "check_plan(value) plan_shares(plan,weight)",
+    "many": "plan_of(bond) plan_paper(plan,start) plan_holds(plan,start,value) bound_paper(plan,bound)"
+            " bound_holds(plan,bound,value) least_step(plan,many) plan_machine(plan,weight,start)",
+    "change": "check_cost(value) is_convex(cost) bent(cost) table_of(cost,size) line_change(cost,one,other)"
+              " line_of(bond,weight,side,filling) check_table(value) change(machine,side,one,other,table)"
+              " cheapest(table,one,other) cheapest_holds(table,one,other,value) cheap_machine(bond,weight,start,rows,columns)",
+    "still": "touched(bond,machine) is_still(bond,machine) still_bar(bond) still_weight(bond) still_machine(bond,start)",
 }
 CLASSES = {
     "hotel.Hotel": "shown(situation) layer(situation) rank(situation,side) nth(side,filling,rank) put(situation,setting)"
