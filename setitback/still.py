@@ -44,7 +44,7 @@ def degree_bar(bond, pieces):
         many = degrees_of(bond, side)
         found = [
             (one, other) for piece in pieces for one in piece[side] for other in piece[side]
-            if one < other and many[one] != many[other]
+            if many[one] != many[other]
         ]
         if found:
             return ("degree", side, *min(found))

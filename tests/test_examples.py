@@ -1,7 +1,19 @@
-"""The document's own examples of chapters 3 to 18, as they stand there."""
+"""The document's own examples of all chapters that have some, as they stand there, and those of the README."""
 
 import doctest
 import unittest
+from pathlib import Path
+
+OVERVIEW = """
+>>> from setitback.meaning import told, within
+>>> from setitback.world import World
+>>> bond = (2, 2, ((0, 0), (0, 1), (1, 1)))
+>>> told(bond, (0, 0)), told(bond, (0, 1)), told((3, 2, ((0, 0), (1, 0), (2, 1))), (0, 0))
+(('bounded', 2), ('steps', (1,)), ('grows', (2, 1), (0, 1), (1,)))
+>>> world = World(bond, (0, 1))
+>>> [world.take(setting) for setting in ((0, 1), (1, 0), (1, 1), (0, 0))], within(bond, (0, 1), 9)
+([((1, 1), 2), ((0, 0), 3), ((1, 1), 2), ((0, 1), 0)], (10, 19))
+"""
 
 FORMS = """
 >>> from setitback.forms import check_run, filling_count, filling_of, read_run, setting_at, values_of, with_value, write_run
@@ -208,6 +220,52 @@ STILL = """
 ((2, 1, 1, 1, 1), None)
 """
 
+WHOLE = """
+>>> from setitback.meaning import bits, paper, paper_holds, told, within
+>>> square, corner, view = (2, 2, ((0, 0), (1, 1))), (2, 2, ((0, 0), (0, 1), (1, 1))), (3, 2, ((0, 0), (1, 0), (2, 1)))
+>>> told(square, (1, 1)), told(corner, (0, 1)), told(corner, (0, 0)), told(view, (2, 1))
+(('bounded', 2), ('steps', (1,)), ('bounded', 2), ('grows', (2, 1), (0, 1), (1,)))
+>>> paper(corner, (0, 1)), paper_holds(view, (0, 0), ('grows', (0, 1), (1,))), paper_holds(corner, (0, 0), ('steps', (1, 0, 1), (1,)))
+(('steps', (1, 0, 1), (1,)), True, False)
+>>> within(square, (1, 1), 9), within(corner, (0, 1), 9), within(view, (0, 0), 4), bits(view, (0, 0), 4)
+((2, 2), (10, 19), (4, 11602), 14)
+>>> from setitback.world import World
+>>> world = World(corner, (0, 1))
+>>> run = ((0, 1), (1, 0), (0, 1))
+>>> back = world.backs(run)
+>>> world.take_all(run), back, world.take_all(back)
+(((1, 1), 6), ((0, 0), (1, 1), (0, 0)), ((0, 1), 0))
+"""
+
+JOURNAL = """
+>>> from setitback.journal import Journal, from_note, note, opened, read_journal, short
+>>> corner = (2, 2, ((0, 0), (0, 1), (1, 1)))
+>>> journal = Journal(corner, (0, 1))
+>>> journal.take((0, 1)), journal.take((1, 0)), journal.octets
+(((1, 1), 2), ((0, 0), 3), (2, 2, 3, 2, 0, 1, 0, 1, 1, 0))
+>>> read_journal(journal.octets[:9])[2:], opened(journal.octets[:9]).world.tells()
+((((0, 1),), 8), ((1, 1), 2))
+>>> note(corner, (0, 1), 3), from_note(note(corner, (0, 1), 3)).take((1, 1))
+((2, 2, 3, 2, 0, 1, 1, 3), ((1, 1), 2))
+>>> short(corner, (0, 1), ((0, 1), (0, 0), (1, 1))), short(corner, (0, 1), ((0, 1), (1, 0), (1, 1), (1, 0)))
+((), ((0, 1), (1, 0)))
+"""
+
+LINES = r"""
+>>> from setitback.desk import Desk
+>>> from setitback.sheets import read_sheet, write_sheet
+>>> text = "one off on\nother low high\nfits off low high\nfits on high\nstart off high"
+>>> read_sheet(text), write_sheet(((1, 2, ((0, 0), (0, 1))), (0, 1), ("a",), ("x1", "y")))
+(((2, 2, ((0, 0), (0, 1), (1, 1))), (0, 1), ('off', 'on'), ('low', 'high')), 'one a\nother x1 y\nfits a x1 y\nstart a y')
+>>> desk = Desk(text)
+>>> [desk.say(line) for line in ("case", "kept", "set on", "set low", "kept", "back", "kept", "back", "kept", "back")]
+['steps on', '0', 'on high', 'off low', '3', 'on high', '2', 'off high', '0', 'refused']
+>>> [desk.say(line) for line in ("within 9", "bits 9", "weight", "alpha", "least", "set on", "short", "loose", "cut 8", "short")]
+['10 19', '5', '1 0 1', 'none', 'none', 'on high', 'on', '16', 'on high', 'on']
+>>> desk.say("judge 0 off low 0 1 0 1 on high 0 1 0 1"), desk.say("judge 0 off low 0 1 0 2 on high 0 1 0 1 off high 2 1 0 2")
+('lossless 2 yes', 'loses on / low / .')
+"""
+
 
 def run_examples(case, text):
     """Run the examples of a chapter; a test that fails shows what they printed."""
@@ -220,6 +278,12 @@ def run_examples(case, text):
 
 
 class Examples(unittest.TestCase):
+    def test_readme(self):
+        run_examples(self, (Path(__file__).resolve().parent.parent / "README.md").read_text(encoding="utf-8"))
+
+    def test_chapter_1(self):
+        run_examples(self, OVERVIEW)
+
     def test_chapter_3(self):
         run_examples(self, FORMS)
 
@@ -267,6 +331,15 @@ class Examples(unittest.TestCase):
 
     def test_chapter_18(self):
         run_examples(self, STILL)
+
+    def test_chapter_19(self):
+        run_examples(self, WHOLE)
+
+    def test_chapter_20(self):
+        run_examples(self, JOURNAL)
+
+    def test_chapter_21(self):
+        run_examples(self, LINES)
 
 
 if __name__ == "__main__":

@@ -4,7 +4,7 @@ import time
 import unittest
 from fractions import Fraction
 from functools import lru_cache
-from itertools import product
+from itertools import permutations, product
 from math import isqrt
 
 from helpers import Checks, any_values, best, is_even, is_tuples, listed, refuses, same
@@ -54,6 +54,16 @@ def bent_at_each_place(value):
         else:
             for _, row in bent_at_each_place(("", part)):
                 yield word, (*told[:at], row, *told[at + 1:])
+
+
+def moved_within_forms(prices):
+    """Prices with one of them raised and another one of its form lowered as much, so that the form's sum stays."""
+    for form, row in enumerate(prices):
+        for up, down in permutations(range(len(row)), 2):
+            for more in (1, 3, 50):
+                fresh = list(row)
+                fresh[up], fresh[down] = row[up] + more, row[down] - more
+                yield (*prices[:form], tuple(fresh), *prices[form + 1:])
 
 
 class Papers(Checks, unittest.TestCase):
@@ -124,6 +134,21 @@ class Holds(Checks, unittest.TestCase):
                 self.told(expected, plan_holds(plan, start, value))
                 seen[paper[0], expected] = seen.get((paper[0], expected), 0) + 1
         self.assertTrue(all(seen.get((word, False), 0) > 50 for word in ("carried", "crossed", "none")))
+
+    def test_prices_moved_within_a_form(self):
+        seen = {}
+        for plan, start, paper in papers():
+            if paper[0] != "carried":
+                for prices in moved_within_forms(paper[1]):
+                    for word in ("none", "crossed"):
+                        expected = paper_is_right(plan, start, (word, prices))
+                        self.told(expected, plan_holds(plan, start, (word, prices)))
+                        seen[word, expected] = seen.get((word, expected), 0) + 1
+        self.assertEqual(len(seen), 4)
+        self.assertGreater(min(seen.values()), 100)
+        # The start has more than 0, but another row has less.
+        self.told(False, plan_holds(EVEN, (1, 0), ("crossed", ((-3, 3), (1, -1)))))
+        self.told(False, plan_holds(EVEN, (1, 0), ("crossed", ((-1, 1), (2, -2)))))
 
     def test_each_word_with_each_content(self):
         seen = {True: 0, False: 0}
@@ -272,8 +297,8 @@ class Bounds(Checks, unittest.TestCase):
         for value in any_values():
             for word in ("weight", "prices", value):
                 self.told(False, bound_holds(DESK, (3, 2), (word, value)))
-            for content in (weight, prices):
-                self.told(False, bound_holds(DESK, (3, 2), (value, content)))
+            self.told(False, bound_holds(DESK, (3, 2), (value, weight)))
+            self.told(False, bound_holds(DESK, (5, 4), (value, prices)))
             self.told(False, bound_holds(DESK, (3, 2), value))
             self.told(False, bound_holds(DESK, (3, 2), ("weight", weight, value)))
             if not (type(value) is int and value >= 0):
@@ -286,6 +311,9 @@ class Bounds(Checks, unittest.TestCase):
             self.told(False, bound_holds(DESK, (3, 2), ("weight", told)))
         for told in (prices[:1], (*prices, ()), ((-10, -10), prices[1]), ((*prices[0], 0), prices[1]), ((0, 0, 0), (0, 0))):
             self.told(False, bound_holds(DESK, (5, 4), ("prices", told)))
+        self.told(True, bound_holds(DESK, (3, 2), ("weight", weight)))
+        self.told(True, bound_holds(DESK, (5, 4), ("prices", prices)))
+        self.told(False, bound_holds(DESK, (5, 4), ("weight", prices)))
         self.told(False, bound_holds(DESK, (3, 2), ("prices", weight)))
         self.told(False, bound_holds(DESK, (3, 2), ("weight", prices)))
         self.told(True, bound_holds(DESK, (5, 4), ["prices", listed(prices)]))

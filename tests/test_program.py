@@ -52,12 +52,21 @@ INTERFACE = {
               " line_of(bond,weight,side,filling) check_table(value) change(machine,side,one,other,table)"
               " cheapest(table,one,other) cheapest_holds(table,one,other,value) cheap_machine(bond,weight,start,rows,columns)",
     "still": "touched(bond,machine) is_still(bond,machine) still_bar(bond) still_weight(bond) still_machine(bond,start)",
+    "meaning": "told(bond,start) within(bond,start,many) bits(bond,start,many) paper(bond,start) paper_holds(bond,start,value)",
+    "world": "World(bond,start)",
+    "journal": "short(bond,start,run) read_journal(octets) note(bond,start,situation) from_note(octets) Journal(bond,start)"
+               " opened(octets)",
+    "sheets": "check_sheet(value) write_sheet(sheet) read_sheet(text)",
+    "desk": "Desk(text)",
 }
 CLASSES = {
     "hotel.Hotel": "shown(situation) layer(situation) rank(situation,side) nth(side,filling,rank) put(situation,setting)"
                    " led(situation,run) within(many)",
     "growing.Growing": "shown(situation) layer(situation) rank(situation,side) nth(side,filling,rank) put(situation,setting)"
                        " led(situation,run) weight(layer) within(many)",
+    "world.World": "tells() take(setting) take_all(run) backs(run) go(situation) twin()",
+    "journal.Journal": "take(setting)",
+    "desk.Desk": "say(line)",
 }
 
 
